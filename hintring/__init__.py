@@ -1,0 +1,1 @@
+"""Hintring: a store on a ring, and what its readers can miss."""

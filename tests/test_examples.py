@@ -1,0 +1,161 @@
+"""The examples of the document, word for word, each with what it tells."""
+
+import unittest
+
+from hintring import books, errors, families, instead, misses, pasts, rings, worlds
+
+MODULES = (rings, books, worlds, families, pasts, misses, instead)
+
+EXAMPLES = """
+# rings
+>>> ring = (50, ((10, 0), (20, 1), (30, 2), (40, 0)))
+>>> line_of(ring, 15), line_of(ring, 41), owners_of(ring, 25, 2), owners_by_sites(ring, (7, 7, 4), 41, 2), sections((ring,))
+((1, 2, 0), (0, 1, 2), (2, 0), (0, 2), ((40, 10), (10, 20), (20, 30), (30, 40)))
+>>> other = changed(ring, ((3, (25,)),))
+>>> moved(ring, other, 2), least_handed(ring, other, 2), section_of((ring, other), 23), points_in(50, (40, 10))
+((((10, 20), (2,), (3,)), ((20, 25), (0,), (3,))), 15, (20, 25), 20)
+# books
+>>> two_of = ((0, 1), (0, 2), (1, 2))
+>>> deeds = (("put", 0, 5, (0, 1, 2), two_of), ("send", 2, 0, 1), ("lose", 6, 1), ("strike", 7, 8, (1,), ((1,),)))
+>>> book = (3, 4, deeds)
+>>> comings(book, 0), comings(book, 1), comings(book, 2), tick_at(book, 3), writes(book), versions(book)
+((1, 2), (2, 3), (), 6, (0, 3), (5, 8))
+>>> letters(book), number_of(book, 8), is_strike(book, 8), touching(book, 1)
+(((0, 0), (0, 1), (0, 2), (1, 1), (3, 1)), 3, True, (0, 1, 2, 3))
+>>> renamed(book, (2, 0, 1))[2][1:], spread(book, (1, 2))[2][3], do_commute(book, 1)
+((('send', 2, 2, 0), ('lose', 6, 0), ('strike', 7, 8, (0,), ((0,),))), ('strike', 7, 2, (1,), ((1,),)), False)
+>>> joined(upto(book, 2), beyond(book, 2)) == book, tick_at(book, 0), last(book)
+(True, 0, 4)
+>>> number_of(book, 6)
+raises NoVersion(number=6)
+# worlds
+>>> two_of = ((0, 1), (0, 2), (1, 2))
+>>> plain_one = (3, 2, (("put", 0, 1, (0, 1, 2), two_of),))
+>>> least_world(plain_one), full_world(plain_one), may_be(plain_one, 1)
+((((0, 1), ()),), (((0, 1, 2), ((0, 1), (1, 1), (2, 1))),), [(0, 1, 1), (1, 0, 1), (1, 1, 0), (1, 1, 1)])
+>>> fallen = (3, 2, (("put", 0, 1, (0, 1, 2), two_of), ("lose", 5, 0)))
+>>> may_be(fallen, 2), world_to(fallen, 2, (0, 0, 0))
+([(0, 0, 1), (0, 1, 0), (0, 1, 1)], None)
+>>> late_one = (2, 9, (("put", 0, 1, (0,), ((0,),)), ("lose", 1, 0), ("send", 2, 0, 1)))
+>>> again = (((0,), ((0, 2),)), (), (3,))
+>>> is_world(late_one, again), cells_by_moments(late_one, again), carried(late_one, again)
+(True, [(0, 0), (1, 0), (1, 0), (1, 1)], (1, 0, 1))
+>>> tells(late_one, again, (1,), 3), cut_world(late_one, again, 1), hushed(late_one, again, 1)
+(1, (((0,), ()),), (((0,), ()), (), ()))
+>>> may_carry(late_one, 2), may_carry((2, 0, late_one[2][:1] + (("send", 0, 0, 1),)), 1)
+((0, 1), (1,))
+# families
+>>> two_of = by_count((0, 1, 2), 2)
+>>> two_of, by_sites(((0, 1), (2, 3)), (1, 1)), least(((0, 1), (1,), (0, 2)))
+(((0, 1), (0, 2), (1, 2)), ((0, 2), (0, 3), (1, 2), (1, 3)), ((0, 2), (1,)))
+>>> has_lot(two_of, (0, 2, 5)), room(two_of, (0,)), blockers(((0,), (1, 2))), renamed_family(two_of, (5, 0, 3))
+(True, (1, 2), ((0, 1), (0, 2)), ((0, 3), (0, 5), (3, 5)))
+>>> either(((0,),), two_of), both(((0,),), two_of), apart(by_count((0, 1, 2, 3), 2), two_of), least_common(two_of, two_of)
+(((0,), (1, 2)), ((0, 1), (0, 2)), ((0, 3), (1, 2)), 1)
+# pasts
+>>> turned = (3, 0, (("copy", 0, 0, 1), ("lose", 0, 0), ("copy", 0, 2, 0)))
+>>> past(turned, (1,), 3), past(turned, (0,), 3), past(turned, (0,), 1)
+(((0, 1), (1,), (1,), (1,)), ((2,), (2,), (0, 2), (0,)), ((0,), (0,)))
+>>> sure_after(turned, (0,), 0), road(turned, (1,), 3, 0, 0), road(turned, (0,), 3, 0, 0)
+(((0,), (0, 1), (1,), (1,)), (0, 1, 1, 1), None)
+>>> two_of = ((0, 1), (0, 2), (1, 2))
+>>> taken_over = (4, 2, (("put", 0, 1, (0, 1, 2), two_of), ("copy", 4, 0, 3)))
+>>> rooms(taken_over, past(taken_over, (0, 3), 2)), rooms(taken_over, past(taken_over, (1, 3), 2))
+((0,), ())
+>>> idle_deeds((2, 0, (("copy", 0, 0, 1), ("copy", 0, 0, 1)))), idle_deeds((2, 0, (("lose", 0, 0), ("lose", 0, 0))))
+((0,), (0,))
+# misses
+>>> two_of = ((0, 1), (0, 2), (1, 2))
+>>> plain = (3, 2, (("put", 0, 1, (0, 1, 2), two_of),))
+>>> fallen = (3, 2, (("put", 0, 1, (0, 1, 2), two_of), ("lose", 5, 0)))
+>>> can_miss(fallen, (0, 1), 1), miss_world(plain, (0,), 1), hold_paper(plain, (0, 1), 1)
+(True, (((1, 2), ()),), (0, ((0,), (1,))))
+>>> least_asked(plain, (0, 1, 2), 1), least_asked(fallen, (0, 1, 2), 1), worst_lot(fallen, (0, 1, 2), 2, 1)
+(2, 3, (0, 1))
+>>> harmless_lots(fallen, (0, 1, 2), 1), held_version(fallen, (1, 2)), most_that_miss(plain, (0, 1, 2), 1)
+(((1, 2),), 1, 1)
+>>> least_need(plain, 1, (0, 1, 2), 1), least_need(fallen, 1, (0, 1, 2), 1), missed_versions(fallen, (0, 1, 2), 2)
+(3, None, (1,))
+# instead
+>>> first, send, second = ("put", 0, 1, (2,), ((2,),)), ("send", 1, 2, 0), ("put", 2, 2, (1, 2), ((1, 2),))
+>>> book = (3, 9, (first, send, second))
+>>> told_by(book, (0,)), told_by(book, (0, 1)), can_bear(book, 1), told_by(book, ())
+((0, 1), (2,), (1,), (0,))
+>>> way = ((1, 2, 0), (3, 0, 1))
+>>> is_way(book, 1, way), guard(book, (0,), way), shows(book, (0,), way), shows(book, (0, 1), way)
+(True, ((0, 2), (0, 2), (0,), (0,)), True, False)
+>>> way_world(book, (0,), way)
+(((2,), ((2, 1),)), (3,), ((1, 2), ()))
+>>> states(book, (0,), 1)
+((1, (0,), 0, 0), (1, (0, 2), 2, 0), (2, (0,), 0, 0), (3, (0,), 0, 0))
+"""
+
+
+def all_names():
+    """What an example may call: the functions of all modules."""
+    names = {}
+    for module in MODULES:
+        names.update({name: worth for name, worth in vars(module).items()
+                      if getattr(worth, "__module__", None) == module.__name__})
+    return names
+
+
+def examples():
+    """Triples (section, what is asked, what is told or None) in order."""
+    found, section = [], ""
+    for line in EXAMPLES.strip().split("\n"):
+        if line.startswith("# "):
+            section = line[2:]
+        elif line.startswith(">>> "):
+            found.append((section, line[4:], None))
+        else:
+            found[-1] = found[-1][:2] + (line,)
+    return found
+
+
+class Examples(unittest.TestCase):
+    def check(self, section):
+        """Plays all examples, as later ones use names of earlier ones; checks those of a section."""
+        names, checked = all_names(), 0
+        for where, asked, told in examples():
+            if told is None:
+                exec(asked, names)
+            elif where == section:
+                self.look(names, asked, told)
+                checked += 1
+        self.assertGreater(checked, 0)
+
+    def look(self, names, asked, told):
+        if told.startswith("raises "):
+            wanted = eval(told[7:], dict(vars(errors)))
+            with self.assertRaises(type(wanted), msg=asked) as seen:
+                eval(asked, names)
+            self.assertIs(type(seen.exception), type(wanted))
+            self.assertEqual(vars(seen.exception), vars(wanted))
+        else:
+            self.assertEqual(repr(eval(asked, names)), repr(eval(told, names)), asked)
+
+    def test_rings(self):
+        self.check("rings")
+
+    def test_books(self):
+        self.check("books")
+
+    def test_worlds(self):
+        self.check("worlds")
+
+    def test_families(self):
+        self.check("families")
+
+    def test_pasts(self):
+        self.check("pasts")
+
+    def test_misses(self):
+        self.check("misses")
+
+    def test_instead(self):
+        self.check("instead")
+
+
+if __name__ == "__main__":
+    unittest.main()

@@ -1,0 +1,215 @@
+"""The interface: each function in its file, with its arguments; lists for tuples, calls by
+names, arguments that stay as they are, and returned lists that are the caller's own."""
+
+import ast
+import copy
+import importlib
+import inspect
+import os
+import unittest
+
+ROOT = os.path.dirname(os.path.dirname(os.path.abspath(__file__)))
+
+NAMES = {
+    "rings": {
+        "is_ring": "thing", "is_epochs": "thing", "line_of": "ring point", "owners_of": "ring point copies",
+        "line_by_sites": "ring sites point", "owners_by_sites": "ring sites point copies", "sections": "epochs",
+        "section_of": "epochs point", "points_in": "points section", "changed": "ring changes",
+        "moved": "ring other copies", "least_handed": "ring other copies"},
+    "books": {
+        "is_deed": "many thing", "is_book": "thing", "last": "book", "tick_at": "book moment", "writes": "book",
+        "versions": "book", "number_of": "book version", "is_strike": "book version", "comings": "book number",
+        "letters": "book", "touching": "book place", "upto": "book moment", "beyond": "book moment",
+        "joined": "book other", "with_deed": "book number deed", "without_deed": "book number",
+        "do_commute": "book number", "exchanged": "book number", "renamed": "book names",
+        "spread": "book numbers", "later": "book ticks", "widened": "book many"},
+    "worlds": {
+        "is_world": "book thing", "least_world": "book", "quiet_world": "book lots", "full_world": "book",
+        "cells_at": "book world moment", "cells_by_moments": "book world", "carried": "book world",
+        "tells": "book world some moment", "fits": "book world log", "joined_worlds": "book world other",
+        "cut_world": "book world moment", "hushed": "book world moment", "may_be": "book moment",
+        "world_to": "book moment cells", "may_carry": "book number"},
+    "families": {
+        "is_family": "thing many", "by_count": "homes need", "by_sites": "sites needs", "least": "lots",
+        "has_lot": "family some", "room": "family some", "blockers": "family", "either": "family other",
+        "both": "family other", "apart": "family other", "least_common": "family other",
+        "renamed_family": "family names"},
+    "pasts": {
+        "past": "book some moment", "pasts_of_each": "book moment", "has_room": "book lots number",
+        "rooms": "book lots", "sure_after": "book some start", "road": "book some moment place start",
+        "is_road": "book some moment place start thing", "idle_deeds": "book", "without_idle": "book"},
+    "misses": {
+        "can_miss": "book some version", "miss_world": "book some version", "hold_paper": "book some version",
+        "held_version": "book some", "most_that_miss": "book owners version",
+        "worst_lot": "book owners asked version", "least_asked": "book owners version",
+        "harmless_lots": "book owners version", "least_need": "book version owners asked",
+        "missed_versions": "book owners asked"},
+    "instead": {
+        "can_tell": "book some version", "told_by": "book some", "can_bear": "book number",
+        "tell_way": "book some version", "tell_world": "book some version", "is_way": "book version thing",
+        "guard": "book some way", "shows": "book some way", "way_world": "book some way",
+        "states": "book some version", "begins": "book version state"}}
+
+RING = (50, ((10, 0), (20, 1), (30, 2), (40, 0)))
+OTHER = (50, ((10, 0), (20, 1), (25, 3), (30, 2), (40, 0)))
+TWO_OF = ((0, 1), (0, 2), (1, 2))
+BOOK = (3, 4, (("put", 0, 5, (0, 1, 2), TWO_OF), ("send", 2, 0, 1), ("wait", 2), ("lose", 6, 1),
+               ("strike", 7, 8, (1, 2), ((1,), (2,)))))
+WORLD = (((0, 1), ((2, 2), (2, 3))), (3,), (), (), ((2,), ()))
+WAY = ((1, 0, 0), (4, 1, 1))
+LOTS = ((0,), (0, 1), (1,), (1,), (2,), (2,))
+FALLEN = (3, 4, (("put", 0, 5, (0, 1, 2), TWO_OF), ("lose", 2, 1), ("copy", 3, 0, 2)))
+
+# Arguments for each function but is_.. of a thing alone.
+CALLS = {
+    "line_of": (RING, 15), "owners_of": (RING, 15, 2), "line_by_sites": (RING, (7, 7, 4), 41),
+    "owners_by_sites": (RING, (7, 7, 4), 41, 2), "sections": ((RING, OTHER),), "section_of": ((RING, OTHER), 23),
+    "points_in": (50, (40, 10)), "changed": (RING, ((1, ()), (3, (25, 26)))), "moved": (RING, OTHER, 2),
+    "least_handed": (RING, OTHER, 2),
+    "last": (BOOK,), "tick_at": (BOOK, 2), "writes": (BOOK,), "versions": (BOOK,), "number_of": (BOOK, 8),
+    "is_strike": (BOOK, 8), "comings": (BOOK, 0), "letters": (BOOK,), "touching": (BOOK, 1), "upto": (BOOK, 2),
+    "beyond": (BOOK, 2), "joined": (BOOK, (3, 4, (("wait", 9),))),
+    "with_deed": (BOOK, 1, ("put", 1, 6, (0, 1), ((0,), (1,)))), "without_deed": (BOOK, 1),
+    "do_commute": (BOOK, 1), "exchanged": (BOOK, 1), "renamed": (BOOK, (2, 0, 1)), "spread": (BOOK, (1, 2)),
+    "later": (BOOK, 3), "widened": (BOOK, 5),
+    "least_world": (BOOK,), "quiet_world": (BOOK, ((0, 1), (1, 2))), "full_world": (BOOK,),
+    "cells_at": (BOOK, WORLD, 3), "cells_by_moments": (BOOK, WORLD), "carried": (BOOK, WORLD),
+    "tells": (BOOK, WORLD, (1, 2), 4), "fits": (BOOK, WORLD, ((3, (1, 2), 5), (5, (2,), 8))),
+    "joined_worlds": (BOOK, WORLD, (((1, 2), ()), (2,), (), (), ((1,), ()))), "cut_world": (BOOK, WORLD, 2),
+    "hushed": (BOOK, WORLD, 2), "may_be": (BOOK, 3), "world_to": (BOOK, 3, (5, 5, 0)), "may_carry": (BOOK, 1),
+    "by_count": ((0, 1, 2), 2), "by_sites": (((0, 1), (2, 3)), (1, 1)), "least": (((0, 1), (1,)),),
+    "has_lot": (TWO_OF, (0, 2, 5)), "room": (TWO_OF, (0,)), "blockers": (((0,), (1, 2)),),
+    "either": (((0,),), TWO_OF), "both": (((0,),), TWO_OF), "apart": (((0,), (1, 2)), TWO_OF),
+    "least_common": (TWO_OF, TWO_OF), "renamed_family": (TWO_OF, (5, 0, 3)),
+    "past": (FALLEN, (1, 2), 3), "pasts_of_each": (FALLEN, 3), "has_room": (BOOK, LOTS, 4),
+    "rooms": (BOOK, LOTS), "sure_after": (FALLEN, (0,), 1), "road": (FALLEN, (2,), 3, 0, 1),
+    "idle_deeds": (FALLEN,), "without_idle": (FALLEN,),
+    "can_miss": (BOOK, (0,), 8), "miss_world": (BOOK, (0,), 8), "hold_paper": (FALLEN, (0, 2), 5),
+    "held_version": (FALLEN, (0, 2)), "most_that_miss": (BOOK, (0, 1, 2), 5),
+    "worst_lot": (BOOK, (0, 1, 2), 1, 5), "least_asked": (BOOK, (0, 1, 2), 5),
+    "harmless_lots": (BOOK, (0, 1, 2), 5), "least_need": (BOOK, 5, (0, 2), 2),
+    "missed_versions": (BOOK, (0, 1, 2), 1),
+    "can_tell": (BOOK, (1,), 5), "told_by": (BOOK, (1,)), "can_bear": (BOOK, 1), "tell_way": (BOOK, (1,), 5),
+    "tell_world": (BOOK, (1,), 5), "guard": (BOOK, (1,), WAY), "shows": (BOOK, (1,), WAY),
+    "way_world": (BOOK, (1,), WAY), "states": (BOOK, (1,), 5), "begins": (BOOK, 5, (1, (0, 1), 0, 0))}
+
+# For an is_.. function: what is passed ahead of its thing, one that is such, one that is none.
+THINGS = {
+    "is_ring": ((), RING, (0, ())), "is_epochs": ((), (RING, OTHER), ()), "is_deed": ((3,), BOOK[2][0], ("wait",)),
+    "is_book": ((), BOOK, (0, 1, ())), "is_world": ((BOOK,), WORLD, WORLD[:4]),
+    "is_road": ((FALLEN, (2,), 3, 0, 1), (0, 0, 2), (0, 0, 0)), "is_way": ((BOOK, 5), WAY, ())}
+
+
+def function(module, name):
+    return getattr(importlib.import_module("hintring." + module), name)
+
+
+def all_functions():
+    return [(module, name, words.split()) for module, rows in NAMES.items() for name, words in rows.items()]
+
+
+def listed(value):
+    """The same value with lists in the place of tuples, at any depth."""
+    if isinstance(value, tuple):
+        return [listed(part) for part in value]
+    return value
+
+
+def mixed(value, depth=0):
+    """The same value with lists at each second depth."""
+    if isinstance(value, tuple):
+        parts = [mixed(part, depth + 1) for part in value]
+        return parts if depth % 2 else tuple(parts)
+    return value
+
+
+class Interface(unittest.TestCase):
+    def test_each_is_defined_in_its_file_with_its_arguments(self):
+        for module, name, words in all_functions():
+            with open(os.path.join(ROOT, "hintring", module + ".py"), encoding="utf-8") as file:
+                tree = ast.parse(file.read())
+            defined = [one.name for one in tree.body if isinstance(one, ast.FunctionDef)]
+            self.assertEqual(defined.count(name), 1, name)
+            given = inspect.signature(function(module, name)).parameters.values()
+            self.assertEqual([one.name for one in given], words, name)
+            for one in given:
+                self.assertIs(one.kind, inspect.Parameter.POSITIONAL_OR_KEYWORD)
+                self.assertIs(one.default, inspect.Parameter.empty)
+
+    def test_a_call_for_each_function(self):
+        told = {name for _, name, _ in all_functions()}
+        self.assertEqual(told, set(CALLS) | set(THINGS) | {"is_family"})
+
+
+class Calls(unittest.TestCase):
+    def check(self, action, words, args):
+        kept = copy.deepcopy(args)
+        first = action(*args)
+        self.assertEqual(repr(action(**dict(zip(words, args)))), repr(first))
+        for form in (listed, mixed):
+            given = [form(part) for part in args]
+            before = copy.deepcopy(given)
+            self.assertEqual(repr(action(*given)), repr(first))
+            self.assertEqual(repr(given), repr(before))
+            self.assertEqual(repr(action(**dict(zip(words, given)))), repr(first))
+            self.assertEqual(repr(given), repr(before))
+        self.assertEqual(repr(args), repr(kept))
+        return first
+
+    def test_lists_names_and_no_change(self):
+        for module, name, words in all_functions():
+            if name in CALLS:
+                with self.subTest(name):
+                    self.check(function(module, name), words, CALLS[name])
+
+    def test_only_lists_that_are_named_are_returned(self):
+        for module, name, words in all_functions():
+            if name in CALLS:
+                with self.subTest(name):
+                    result = function(module, name)(*CALLS[name])
+                    self.assertEqual(isinstance(result, list), name in ("cells_by_moments", "may_be"))
+                    self.assertNotIn("[", repr(result)[1:])
+
+    def test_a_returned_list_is_the_callers_own(self):
+        for module, name in (("worlds", "cells_by_moments"), ("worlds", "may_be")):
+            action = function(module, name)
+            first = action(*CALLS[name])
+            kept = list(first)
+            first.append(7)
+            first[0] = None
+            self.assertEqual(action(*CALLS[name]), kept)
+            self.assertIsNot(action(*CALLS[name]), action(*CALLS[name]))
+
+    def test_lists_that_were_passed_in_are_not_kept(self):
+        with_lists = listed(BOOK)
+        made = function("books", "later")(with_lists, 0)
+        with_lists[2][0][3].append(9)
+        self.assertEqual(made, BOOK)
+
+    def test_results_may_be_passed_in_again(self):
+        cells = function("worlds", "may_be")(BOOK, 5)
+        for one in cells:
+            world = function("worlds", "world_to")(BOOK, 5, list(one))
+            self.assertTrue(function("worlds", "is_world")(BOOK, world))
+
+    def test_is_functions_take_no_list_for_a_tuple(self):
+        for module, name, words in all_functions():
+            if name in THINGS:
+                with self.subTest(name):
+                    ahead, good, bad = THINGS[name]
+                    action = function(module, name)
+                    self.assertIs(action(*ahead, good), True)
+                    self.assertIs(action(*ahead, bad), False)
+                    self.assertIs(action(*ahead, listed(good)), False)
+                    self.assertIs(action(*ahead, mixed(good)), mixed(good) == good)
+                    self.assertIs(action(*[listed(part) for part in ahead], good), True)
+                    self.assertIs(action(**dict(zip(words, ahead + (good,)))), True)
+        action = function("families", "is_family")
+        self.assertIs(action(TWO_OF, 3), True)
+        self.assertIs(action(thing=TWO_OF, many=3), True)
+        self.assertIs(action(listed(TWO_OF), 3), False)
+        self.assertIs(action(mixed(TWO_OF), 3), False)
+
+
+if __name__ == "__main__":
+    unittest.main()
