@@ -6,57 +6,7 @@ from hintring.masks import lot_of, mask_of, masks_of
 from hintring.misses import first_free, world_without
 from hintring.pasts import lots_of, mask_ahead
 from hintring.plain import are_numbers, frozen, is_tuple
-
-
-def table_from(book, some, start):
-    """For each MOMENT from start on the STATES (guard as a mask, place, comes) of some, each
-    with the one behind the DEED between of which it is made."""
-    table = {len(book[2]): {(mask_of(some), place, 0): None for place in some}}
-    for number in reversed(range(start, len(book[2]))):
-        deed, moments = book[2][number], coming(book, number)
-        layer = table[number + 1]
-        if is_write(deed):
-            lots = masks_of(deed[4])
-            layer = [state for state in layer if first_free(lots, state[0]) is not None]
-        found = {}
-        for state in layer:
-            for made in states_ahead(deed, number, moments, state):
-                found.setdefault(made, state)
-        table[number] = found
-    return table
-
-
-def states_ahead(deed, number, moments, state):
-    """The list of the STATES that this DEED makes of one behind it; of a write, if any."""
-    mask, place, comes = state
-    if deed[0] == "copy":
-        ahead = mask_ahead(deed, mask)
-        if place == deed[3] and comes == 0:
-            return [(ahead, place, 0), (ahead, deed[2], 0)]
-        return [(ahead, place, comes)]
-    if deed[0] == "send":
-        if place == deed[3] and (comes == 0 or comes in moments):
-            return [state, (mask | (1 << deed[2]), deed[2], 0)]
-        return [state]
-    if deed[0] == "lose":
-        if place == deed[2] and comes == 0:
-            comes = number + 1
-        return [(mask_ahead(deed, mask), place, comes)]
-    return [state]
-
-
-def does_begin(book, number, state):
-    """Whether the VERSION of this write can come to a STATE (guard, place, comes) right behind it."""
-    _, place, comes = state
-    return place in book[2][number][3] and (comes == 0 or comes in coming(book, number))
-
-
-def first_begun(book, number, layer):
-    """The least STATE of a layer, right behind this write, to which its VERSION can come."""
-    for state in sorted(layer):
-        if does_begin(book, number, state):
-            return state
-    return None
+from hintring.tables import does_begin, first_begun, table_to
 
 
 def can_tell(book, some, version):
@@ -82,7 +32,7 @@ def all_told(book, some):
         told.append(0)
     numbers = write_numbers(book[2])
     if len(numbers) > 0:
-        table = table_from(book, some, numbers[0] + 1)
+        table = table_to(book, some, numbers[0] + 1)
         for number in numbers:
             if first_begun(book, number, table[number + 1]) is not None:
                 told.append(book[2][number][2])
@@ -111,7 +61,7 @@ def way_to(book, some, version):
     number = write_with(book[2], version)
     if number is None:
         return None
-    table = table_from(book, some, number + 1)
+    table = table_to(book, some, number + 1)
     state = first_begun(book, number, table[number + 1])
     if state is None:
         return None
@@ -253,7 +203,7 @@ def states(book, some, version):
     number = write_with(book[2], version)
     if number is None:
         raise NoVersion(version)
-    table = table_from(book, some, number + 1)
+    table = table_to(book, some, number + 1)
     return tuple(sorted([(moment, lot_of(mask), place, comes)
                          for moment in table for mask, place, comes in table[moment]]))
 

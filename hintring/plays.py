@@ -19,17 +19,26 @@ def letters_by_moments(book, world):
 
 def played(book, world):
     """The list of the CELLS of all MOMENTS, and the list of what each letter carries."""
+    return played_with_ends(book, world, {})
+
+
+def played_with_ends(book, world, ends):
+    """The same; ends has for the numbers of some DEEDS the VERSIONS that end ahead of them."""
     letters = letters_by_moments(book, world)
-    cells = [0] * book[0]
+    cells, gone = [0] * book[0], [0]
     rows, burdens = [tuple(cells)], []
     for number, deed in enumerate(book[2]):
+        if number in ends:
+            gone = gone + ends[number]
+            cells = [0 if version in gone else version for version in cells]
         burdens.append(burden(deed, cells))
         if is_write(deed):
             cells = cells_with(cells, world[number][0], deed[2])
         else:
             cells = cells_behind(deed, cells)
         for place, source in letters.get(number + 1, []):
-            cells[place] = max(cells[place], burdens[source])
+            if burdens[source] not in gone:
+                cells[place] = max(cells[place], burdens[source])
         rows.append(tuple(cells))
     return rows, burdens
 

@@ -2,9 +2,11 @@
 
 import unittest
 
-from hintring import books, errors, families, instead, misses, pasts, rings, worlds
+from hintring import (books, errors, families, hints, hours, instead, lags, logs, losses, misses, moves, pasts, rings,
+                      strikes, talk, worlds)
 
-MODULES = (rings, books, worlds, families, pasts, misses, instead)
+MODULES = (rings, books, worlds, families, pasts, misses, instead, logs, strikes, hours, lags, moves, hints, talk,
+           losses)
 
 EXAMPLES = """
 # rings
@@ -88,6 +90,90 @@ raises NoVersion(number=6)
 (((2,), ((2, 1),)), (3,), ((1, 2), ()))
 >>> states(book, (0,), 1)
 ((1, (0,), 0, 0), (1, (0, 2), 2, 0), (2, (0,), 0, 0), (3, (0,), 0, 0))
+# logs
+>>> nothing_at_0 = ((1, (0,), 0),)
+>>> can_be(plain, nothing_at_0 + ((1, (1,), 0),)), blame(plain, nothing_at_0 + ((1, (1,), 0),)), next_answers(plain, nothing_at_0, 1, (1,))
+(False, ((0,), (1,)), (1,))
+>>> surely_took(plain, nothing_at_0, 1), sure_lot(plain, (), 1, (0, 1, 2)), is_rising(plain, ((1, (0, 1)), (1, (1, 2))))
+((1, 2), (0, 1), True)
+>>> covered = (3, 9, (("put", 0, 1, (2,), ((2,),)), ("put", 1, 2, (1, 2), ((1, 2),)), ("send", 2, 2, 0)))
+>>> markings(covered, ((3, (0,), 1),)), breaks_at(covered, ((3, (0,), 1),), (0,)), breaks_at(covered, ((3, (0,), 1),), (1,))
+(((0,), (1,)), 0, (1, ((2,),)))
+>>> next_answers(covered, (), 3, (0,)), backs(plain, 1, (1,), 1, (0,)), backs(covered, 2, (2,), 3, (0,))
+((0, 2), (1,), (2,))
+# strikes
+>>> two_of = ((0, 1), (0, 2), (1, 2))
+>>> first, gone = ("put", 0, 1, (0, 1, 2), two_of), ("strike", 1, 2, (0, 1, 2), two_of)
+>>> healed = (3, 2, (first, gone, ("copy", 5, 0, 1), ("copy", 6, 1, 0), ("copy", 7, 1, 2)))
+>>> [remnants(healed, 2, moment) for moment in (2, 3, 4, 5)], [least_grace(healed, (place,)) for place in (0, 1, 2)]
+([(0, 1, 2), (0, 2), (2,), ()], [6, 5, 7])
+>>> timed, late = with_ends(healed, 6), (((0, 2), ()), ((0, 1), ()), (), (), (), ())
+>>> timed[2][4], comeback(healed, 6, (0, 1)), is_comeback(healed, 6, (2,), (5, late))
+(('wait', 7), None, True)
+>>> cells_in_time(timed, late, 6, 5), ended(timed, 6, 4)
+((0, 0, 1), ())
+# hours
+>>> web = (3, (("meet", (0, 1), 4, 0, 100), ("meet", (1, 2), 3, 0, 100)))
+>>> hours(web, (0,), 10), rests(web, (0,), 10), hour_road(web, (0,), 10, 2)
+((10, 14, 17), ((10, 14), (14, 17)), ((0, 0, 1, 14), (1, 1, 2, 17)))
+>>> once = (2, (("copy", (0, 1), 5, 10, 15),))
+>>> hours(once, (0,), 10), hours(once, (0,), 11), rests(once, (0,), 11)
+((10, 15), (11, -1), ((11, 16),))
+# lags
+>>> ones = ((0,), (1,), (2,))
+>>> lag(web, ones, ones, 10), far_lots(web, ones, ones, 10), lag(web, ones, ((0, 1), (0, 2), (1, 2)), 10)
+(7, ((0,), (2,)), 4)
+>>> least_told(web, ones, ones, ((3, 2), (5, 8), (9, 11)), 12), longest_every(web, ones, ones, 10, 5, (0, 2))
+(3, 5)
+>>> hour_grace(web, ones, 10, 5)
+13
+# moves
+>>> move = ((0, 1, 2), (0, 1, 3), ((0, 3),))
+>>> can_lose(move, 2, 2), least_reads(move, 2), heirs(move), is_short_lot(move, (0, 3)), heirs(((0, 1, 2), (0, 1, 3), ((2, 3),)))
+(True, 3, None, True, ((0, 0), (1, 1), (3, 2)))
+>>> ring, phases = (50, ((10, 0), (20, 1), (30, 2), (40, 0))), four_phases((0, 1, 2), (0, 1, 3), 2, 2)
+>>> fewest_copies((0, 1, 2), (0, 1, 3), (2,), 2, 2), breaks(ring, ((3, (25,)), (4, (24,))), 2)
+(((0, 3), (1, 3)), ((20, 24),))
+>>> dealt(ring, (50, ((10, 0), (20, 1), (25, 3))), 2, 25), mishaps((4, 0, (("copy", 1, 2, 3),)), phases)[0]
+(((0, 2), (0, 3), ((2, 3),)), (0, 2, 0, 0))
+>>> is_mishap_lots((4, 0, (("copy", 1, 2, 3),)), phases, (0, 2, 1, 1), ((1, 2), (0, 3)))
+True
+# hints
+>>> boxes, put = ((4, 3, 2),), ("put", 0, 1, (0, 1, 4), ((0, 1), (0, 4), (1, 4)))
+>>> first_there((0, 1, 2, 3), 3, (2,)), noted_homes(boxes, (0, 1, 2, 3), 3, (2,))
+((0, 1, 3), (0, 1, 4))
+>>> kept, given = (5, 2, (put,)), (5, 2, (put, ("copy", 3, 4, 2)))
+>>> given_back(kept, boxes, 0), given_back(given, boxes, 0), counts_from(given, boxes, 0, 4)
+((), (4,), 2)
+>>> throw_paper(kept, boxes, 4), throw_paper(given, boxes, 4), least_gifts(kept, boxes, (0, 1, 3), 2, 1, 1)
+(((0, 2), 1), None, ((4, 3),))
+>>> fewest_falls(kept, boxes, 1), fewest_falls(kept, ((4, 1, 2),), 1)
+((0, 1), (1,))
+# talk
+>>> talk = (3, 9, (("say", 0, 0), ("send", 1, 0, 1), ("copy", 2, 1, 2), ("wait", 9)))
+>>> surely_known(talk, 2, 4), may_know(talk, 2, 4), must_be_away(talk, 2, 3, 4), must_be_away(talk, 2, 2, 4)
+((), (1,), (0, 1), (1,))
+>>> deafest(talk, 2, 3), newest(talk, 2, 3)
+(((), (2,), (), ()), ((), (3, 4), (), ()))
+>>> late = (3, 0, (("say", 0, 0), ("copy", 1, 0, 1), ("say", 2, 0), ("copy", 3, 1, 2)))
+>>> asks, one, two = ((3, 1), (4, 2)), ((0,), ((0,),)), ((1,), ((1,),))
+>>> settled_from(late, (0, 1), 1), heard_from(late, 2, 0, 0), may_be_away(late, 2, 0, 3), can_be_of(late, asks, (2, 1))
+(2, 4, (0, 1), False)
+>>> late_miss(late, (2, 0, (("put", 0, 1, (0,), ((0,),)),)), asks, (one, one, two), ((0,), (0,), (1,)), 1)
+(1, 2)
+# losses
+>>> trails_apart(taken_over, ((0, 1),), (1, 3), 1), len(least_cut(taken_over, ((0, 1),), (1, 3), 1))
+(((1, (0, 3)), (1, (1, 1))), 2)
+>>> len(trails_apart(taken_over, ((0, 2),), (0, 3), 1)), is_parted(taken_over, ((0, 2),), (0, 3), 1, ((1, 0),))
+(1, True)
+>>> plain = (3, 2, (("put", 0, 1, (0, 1, 2), two_of),))
+>>> least_losses(plain, (0, 1), 1), least_losses(plain, (0, 1, 2), 1), least_losses(plain, (0,), 1)
+(1, 2, 0)
+>>> losses_borne(plain, (0, 1, 2), 2, 1), losses_borne(plain, (0, 1, 2), 3, 1), losses_borne(plain, (0, 1, 2), 1, 1)
+(0, 1, -1)
+>>> twins = (2, 0, (("put", 0, 1, (0,), ((0,),)), ("put", 0, 2, (1,), ((1,),))))
+>>> least_losses(twins, (0, 1), 1), least_losses(twins, (0, 1), 2), with_cut(plain, ((1, 0),))[2][1]
+(2, 1, ('lose', 0, 0))
 """
 
 
@@ -155,6 +241,30 @@ class Examples(unittest.TestCase):
 
     def test_instead(self):
         self.check("instead")
+
+    def test_logs(self):
+        self.check("logs")
+
+    def test_strikes(self):
+        self.check("strikes")
+
+    def test_hours(self):
+        self.check("hours")
+
+    def test_lags(self):
+        self.check("lags")
+
+    def test_moves(self):
+        self.check("moves")
+
+    def test_hints(self):
+        self.check("hints")
+
+    def test_talk(self):
+        self.check("talk")
+
+    def test_losses(self):
+        self.check("losses")
 
 
 if __name__ == "__main__":

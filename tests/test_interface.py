@@ -48,7 +48,49 @@ NAMES = {
         "can_tell": "book some version", "told_by": "book some", "can_bear": "book number",
         "tell_way": "book some version", "tell_world": "book some version", "is_way": "book version thing",
         "guard": "book some way", "shows": "book some way", "way_world": "book some way",
-        "states": "book some version", "begins": "book version state"}}
+        "states": "book some version", "begins": "book version state"},
+    "logs": {
+        "is_log": "book thing", "can_be": "book log", "log_world": "book log",
+        "next_answers": "book log moment some", "sure_lot": "book log moment owners",
+        "backs": "book moment some after other", "is_rising": "book asks", "blame": "book log",
+        "surely_took": "book log version", "may_have_taken": "book log version", "markings": "book log",
+        "fence_of": "book log marking number", "reach_of": "book log marking version",
+        "breaks_at": "book log marking"},
+    "strikes": {
+        "with_ends": "book grace", "ended": "book grace moment", "cells_in_time": "book world grace moment",
+        "remnants": "book version moment", "comeback": "book grace some", "is_comeback": "book grace some thing",
+        "least_grace": "book some"},
+    "hours": {
+        "is_web": "thing", "hours": "web lot tick", "hour_road": "web lot tick place", "rests": "web lot tick"},
+    "lags": {
+        "lag": "web family lots tick", "far_lots": "web family lots tick",
+        "least_told": "web family lots dones tick", "longest_every": "web family lots tick limit places",
+        "hour_grace": "web family tick life"},
+    "moves": {
+        "is_move": "thing", "origins": "move place", "can_lose": "move need reads",
+        "losing_lot": "move need reads", "heirs": "move", "short_lot": "move",
+        "is_losing_lot": "move need reads thing", "is_heirs": "move thing", "is_short_lot": "move thing",
+        "least_reads": "move need", "fewest_copies": "old new away need reads",
+        "four_phases": "old new need reads", "mishaps": "book phases",
+        "is_mishap_lots": "book phases mishap thing", "dealt": "ring other copies point",
+        "breaks": "ring changes copies"},
+    "hints": {
+        "is_boxes": "thing many", "keeps_to": "book boxes", "first_there": "line copies away",
+        "noted_homes": "boxes line copies away", "given_back": "book boxes number",
+        "counts_from": "book boxes number box", "throw_paper": "book boxes box",
+        "least_gifts": "book boxes some reads version most", "fewest_falls": "book boxes version"},
+    "talk": {
+        "is_talk": "thing", "is_talk_world": "talk thing", "known_in": "talk world place moment",
+        "surely_known": "talk place moment", "may_know": "talk place moment", "deafest": "talk place start",
+        "newest": "talk place start", "may_be_away": "talk place start moment",
+        "must_be_away": "talk place start moment", "heard_from": "talk place near start",
+        "settled_from": "talk some number", "can_be_of": "talk asks sayings",
+        "late_miss": "talk book asks families lots version"},
+    "losses": {
+        "trails_apart": "book takers some version", "least_cut": "book takers some version",
+        "is_parted": "book takers some version cut", "least_losses": "book some version",
+        "worst_cut": "book some version", "losses_borne": "book owners asked version",
+        "with_cut": "book cut"}}
 
 RING = (50, ((10, 0), (20, 1), (30, 2), (40, 0)))
 OTHER = (50, ((10, 0), (20, 1), (25, 3), (30, 2), (40, 0)))
@@ -59,6 +101,19 @@ WORLD = (((0, 1), ((2, 2), (2, 3))), (3,), (), (), ((2,), ()))
 WAY = ((1, 0, 0), (4, 1, 1))
 LOTS = ((0,), (0, 1), (1,), (1,), (2,), (2,))
 FALLEN = (3, 4, (("put", 0, 5, (0, 1, 2), TWO_OF), ("lose", 2, 1), ("copy", 3, 0, 2)))
+LOG = ((3, (0, 1), 5), (5, (1,), 0))
+STRUCK = (3, 2, (("put", 0, 1, (0, 1, 2), TWO_OF), ("strike", 1, 2, (0, 1, 2), TWO_OF), ("copy", 5, 0, 1)))
+STRUCK_WORLD = (((0, 2), ()), ((0, 1), ((1, 2),)), (), ())
+WEB = (3, (("meet", (0, 1), 4, 0, 100), ("meet", (1, 2), 3, 0, 100), ("copy", (2, 0), 5, 2, 90)))
+ONES = ((0,), (1,), (2,))
+MOVE = ((0, 1, 2), (0, 1, 3), ((2, 3), (0, 3)))
+LOSING = ((0, 1, 2), (0, 1, 3), ((0, 3),))
+PHASES = ((TWO_OF, TWO_OF), (ONES, ((0, 1, 2),)))
+BOXES = ((3, 0, 1), (4, 0, 2))
+NOTED = (5, 2, (("put", 0, 1, (0, 2, 3), ((0, 2), (0, 3), (2, 3))), ("copy", 1, 3, 1)))
+TALK = (3, 9, (("say", 0, 0), ("send", 1, 0, 1), ("copy", 2, 1, 2), ("wait", 9)))
+LATE = (3, 0, (("say", 0, 0), ("copy", 1, 0, 1), ("say", 2, 0), ("copy", 3, 1, 2)))
+ONE, TWO = ((0,), ((0,),)), ((1,), ((1,),))
 
 # Arguments for each function but is_.. of a thing alone.
 CALLS = {
@@ -91,13 +146,53 @@ CALLS = {
     "missed_versions": (BOOK, (0, 1, 2), 1),
     "can_tell": (BOOK, (1,), 5), "told_by": (BOOK, (1,)), "can_bear": (BOOK, 1), "tell_way": (BOOK, (1,), 5),
     "tell_world": (BOOK, (1,), 5), "guard": (BOOK, (1,), WAY), "shows": (BOOK, (1,), WAY),
-    "way_world": (BOOK, (1,), WAY), "states": (BOOK, (1,), 5), "begins": (BOOK, 5, (1, (0, 1), 0, 0))}
+    "way_world": (BOOK, (1,), WAY), "states": (BOOK, (1,), 5), "begins": (BOOK, 5, (1, (0, 1), 0, 0)),
+    "can_be": (BOOK, LOG), "log_world": (BOOK, LOG), "next_answers": (BOOK, LOG, 5, (0, 2)),
+    "sure_lot": (BOOK, LOG, 5, (0, 1, 2)), "backs": (BOOK, 3, (0, 1), 5, (1,)),
+    "is_rising": (BOOK, ((1, (0, 1)), (1, (0, 2)))), "blame": (BOOK, LOG + ((5, (1, 2), 0),)),
+    "surely_took": (BOOK, LOG, 5), "may_have_taken": (BOOK, LOG, 5), "markings": (BOOK, LOG),
+    "fence_of": (BOOK, LOG, (5,), 5), "reach_of": (BOOK, LOG, (5,), 5),
+    "breaks_at": (BOOK, LOG + ((5, (1, 2), 0),), (5,)),
+    "with_ends": (STRUCK, 3), "ended": (STRUCK, 3, 3), "cells_in_time": (STRUCK, STRUCK_WORLD[:3], 3, 3),
+    "remnants": (STRUCK, 2, 3), "comeback": (STRUCK, 3, (1,)), "least_grace": (STRUCK, (0, 1)),
+    "hours": (WEB, (0,), 10), "hour_road": (WEB, (0,), 10, 2), "rests": (WEB, (0,), 10),
+    "lag": (WEB, ONES, TWO_OF, 10), "far_lots": (WEB, ONES, TWO_OF, 10),
+    "least_told": (WEB, ONES, TWO_OF, ((3, 2), (5, 8)), 12),
+    "longest_every": (WEB, ONES, TWO_OF, 10, 4, (0, 2)), "hour_grace": (WEB, ONES, 10, 5),
+    "origins": (MOVE, 3), "can_lose": (LOSING, 2, 2), "losing_lot": (LOSING, 2, 2), "heirs": (MOVE,),
+    "short_lot": (LOSING,), "least_reads": (MOVE, 2), "fewest_copies": ((0, 1, 2), (0, 1, 3), (2,), 2, 2),
+    "four_phases": ((0, 1, 2), (0, 1, 3), 2, 2), "mishaps": (FALLEN, PHASES), "dealt": (RING, OTHER, 2, 15),
+    "breaks": (RING, ((3, (25,)), (4, (24,))), 2),
+    "keeps_to": (NOTED, BOXES), "first_there": ((0, 1, 2), 2, (1,)),
+    "noted_homes": (((3, 2, 1),), (0, 1, 2), 2, (1,)), "given_back": (NOTED, BOXES, 0),
+    "counts_from": (NOTED, BOXES, 0, 3), "throw_paper": (NOTED, BOXES, 4),
+    "least_gifts": (NOTED, BOXES, (0, 1), 2, 1, 2), "fewest_falls": (NOTED, BOXES, 1),
+    "known_in": (TALK, ((), (2, 3), (), ()), 2, 3), "surely_known": (TALK, 0, 3), "may_know": (TALK, 2, 4),
+    "deafest": (TALK, 2, 3), "newest": (TALK, 2, 3), "may_be_away": (TALK, 2, 0, 4),
+    "must_be_away": (TALK, 2, 0, 4), "heard_from": (LATE, 2, 0, 0), "settled_from": (LATE, (0, 1), 1),
+    "can_be_of": (LATE, ((3, 1), (4, 2)), (1, 2)),
+    "late_miss": (LATE, (2, 0, (("put", 0, 1, (0,), ((0,),)),)), ((3, 1), (4, 2)), (ONE, ONE, TWO),
+                  ((0,), (0,), (1,)), 1),
+    "trails_apart": (FALLEN, ((0, 1),), (0, 2), 5), "least_cut": (FALLEN, ((0, 1),), (0, 2), 5),
+    "is_parted": (FALLEN, ((0, 1),), (0, 2), 5, ((1, 0),)), "least_losses": (FALLEN, (0, 2), 5),
+    "worst_cut": (FALLEN, (0, 2), 5), "losses_borne": (FALLEN, (0, 1, 2), 2, 5),
+    "with_cut": (FALLEN, ((1, 0), (1, 2)))}
 
 # For an is_.. function: what is passed ahead of its thing, one that is such, one that is none.
 THINGS = {
     "is_ring": ((), RING, (0, ())), "is_epochs": ((), (RING, OTHER), ()), "is_deed": ((3,), BOOK[2][0], ("wait",)),
     "is_book": ((), BOOK, (0, 1, ())), "is_world": ((BOOK,), WORLD, WORLD[:4]),
-    "is_road": ((FALLEN, (2,), 3, 0, 1), (0, 0, 2), (0, 0, 0)), "is_way": ((BOOK, 5), WAY, ())}
+    "is_road": ((FALLEN, (2,), 3, 0, 1), (0, 0, 2), (0, 0, 0)), "is_way": ((BOOK, 5), WAY, ()),
+    "is_log": ((BOOK,), LOG, LOG[::-1]),
+    "is_comeback": ((STRUCK, 3, (2,)), (4, STRUCK_WORLD), (2, STRUCK_WORLD)),
+    "is_web": ((), WEB, (0, ())), "is_move": ((), MOVE, MOVE[:2]), "is_losing_lot": ((LOSING, 2, 2), (0, 3), (0, 1)),
+    "is_heirs": ((MOVE,), ((0, 0), (1, 1), (3, 2)), ((0, 0), (1, 1))), "is_short_lot": ((LOSING,), (0, 3), (0, 1)),
+    "is_mishap_lots": ((FALLEN, PHASES, (1, 0, 0, 1)), ((2,), (0, 1)), ((1,), (0, 1))),
+    "is_talk": ((), TALK, BOOK), "is_talk_world": ((TALK,), ((), (2, 3), (), ()), ((), (1,), (), ()))}
+
+
+# The functions that return a list.
+LISTS = ("cells_by_moments", "may_be", "mishaps")
 
 
 def function(module, name):
@@ -138,7 +233,7 @@ class Interface(unittest.TestCase):
 
     def test_a_call_for_each_function(self):
         told = {name for _, name, _ in all_functions()}
-        self.assertEqual(told, set(CALLS) | set(THINGS) | {"is_family"})
+        self.assertEqual(told, set(CALLS) | set(THINGS) | {"is_family", "is_boxes"})
 
 
 class Calls(unittest.TestCase):
@@ -167,11 +262,11 @@ class Calls(unittest.TestCase):
             if name in CALLS:
                 with self.subTest(name):
                     result = function(module, name)(*CALLS[name])
-                    self.assertEqual(isinstance(result, list), name in ("cells_by_moments", "may_be"))
+                    self.assertEqual(isinstance(result, list), name in LISTS)
                     self.assertNotIn("[", repr(result)[1:])
 
     def test_a_returned_list_is_the_callers_own(self):
-        for module, name in (("worlds", "cells_by_moments"), ("worlds", "may_be")):
+        for module, name in (("worlds", "cells_by_moments"), ("worlds", "may_be"), ("moves", "mishaps")):
             action = function(module, name)
             first = action(*CALLS[name])
             kept = list(first)
@@ -209,6 +304,11 @@ class Calls(unittest.TestCase):
         self.assertIs(action(thing=TWO_OF, many=3), True)
         self.assertIs(action(listed(TWO_OF), 3), False)
         self.assertIs(action(mixed(TWO_OF), 3), False)
+        action = function("hints", "is_boxes")
+        self.assertIs(action(BOXES, 5), True)
+        self.assertIs(action(thing=BOXES, many=5), True)
+        self.assertIs(action(listed(BOXES), 5), False)
+        self.assertIs(action(mixed(BOXES), 5), False)
 
 
 if __name__ == "__main__":

@@ -16,7 +16,9 @@ BinOp UnaryOp BoolOp Compare IfExp And Or Not USub Invert Add Sub Mult FloorDiv 
 Eq NotEq Lt LtE Gt GtE Is IsNot In NotIn ImportFrom alias keyword JoinedStr FormattedValue""".split()
 BUILTINS = """len range enumerate zip min max sum abs sorted reversed int str bool list tuple dict set isinstance any
 all ValueError LookupError""".split()
-METHODS = "append get items keys values setdefault bit_length index count join split extend pop copy".split()
+METHODS = "append get items keys values setdefault bit_length index insert count join split extend pop copy".split()
+NO_ATTRIBUTES = """items keys values pop update append clear extend insert remove reverse setdefault sort args encode decode hex
+fromhex format as_integer_ratio bit_count conjugate from_bytes is_integer to_bytes""".split()
 BARRED = """type typing typing_extensions enum Enum IntEnum StrEnum Flag IntFlag Generic Protocol ABC ABCMeta namedtuple
 NamedTuple TypedDict TYPE_CHECKING abstractmethod register mro elements open input law version_info with_traceback
 add_note""".split()
@@ -142,10 +144,15 @@ class Language(unittest.TestCase):
             self.assertNotIn("_wall", source(name))
 
     def test_calls_and_comparisons(self):
+        attributes = {node.attr for _, tree in trees() for node in ast.walk(tree)
+                      if isinstance(node, ast.Attribute) and isinstance(node.ctx, ast.Store)}
+        self.assertFalse(attributes & set(NO_ATTRIBUTES))
         for name, tree in trees():
             for node in ast.walk(tree):
-                if isinstance(node, ast.Attribute) and isinstance(node.value, ast.Name) and node.attr != "__init__":
-                    self.assertIn(node.attr, METHODS + ["number"], (name, node.lineno))
+                if isinstance(node, ast.Attribute) and isinstance(node.ctx, ast.Store):
+                    self.assertEqual((node.value.__class__, getattr(node.value, "id", "")), (ast.Name, "self"))
+                if isinstance(node, ast.Attribute) and node.attr != "__init__":
+                    self.assertTrue(node.attr in METHODS or node.attr in attributes, (name, node.lineno))
                 if isinstance(node, ast.Compare):
                     for sign, right in zip(node.ops, node.comparators):
                         if isinstance(sign, (ast.Is, ast.IsNot)):
