@@ -229,7 +229,6 @@ def blame(book, log):
 def fences_behind(book, log, version):
     """The number of the write of this VERSION, the Case, and for each MARKING that does the
     LOT, as a mask, that can not have taken it."""
-    refuse(book, ages=(version,))
     number = write_with(book[2], version)
     if number is None:
         raise NoVersion(version)
@@ -272,7 +271,7 @@ def markings(book, log):
 def refuse_marking(book, log, marking):
     """Raises Unfit if this is no MARKING, then TooMany if there are too many."""
     sends = [deed for deed in book[2] if deed[0] == "send"]
-    if not is_tuple(marking, len(sends)) or not all([mark in marks_of(log) for mark in marking]):
+    if not is_tuple(marking, len(sends)) or not all([is_number(mark) and mark in marks_of(log) for mark in marking]):
         raise Unfit()
     refuse_many(book, told_in(log))
 

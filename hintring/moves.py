@@ -234,7 +234,7 @@ def dealt(ring, other, copies, point):
 
 
 def dealt_in(ring, other, copies, point):
-    """The same of tuples, for RINGS with spots."""
+    """The same of tuples, also for RINGS without spots."""
     old, new = line_from(ring, point)[:copies], line_from(other, point)[:copies]
     outs = [node for node in old if node not in new]
     ins = [node for node in new if node not in old]
@@ -251,7 +251,8 @@ def breaks(ring, changes, copies):
     found = []
     for section in sections_of((ring, final)):
         old, new, _ = dealt_in(ring, final, copies, section[1])
-        rows = [dealt_in(ring, other, copies, section[1])[2] for other in alone if other[1] != ()]
+        # Where a change alone leaves no spots, nobody comes in by it.
+        rows = [dealt_in(ring, other, copies, section[1])[2] for other in alone]
         pairs = tuple([pair for row in rows for pair in row])
         if heirs_in((old, new, pairs)) is None:
             found.append(section)

@@ -1,6 +1,6 @@
 """Strikes: deletions that are forgotten behind a grace, and what comes back then."""
 
-from hintring.comebacks import comeback_of, ends_in, targets_of, timed_book
+from hintring.comebacks import comeback_of, ends_in, timed_book
 from hintring.deeds import refuse, write_with
 from hintring.errors import NoVersion, TooMany, Unfit
 from hintring.instead import all_told
@@ -92,8 +92,6 @@ def least_grace(book, some):
     book, some = frozen(book), frozen(some)
     refuse(book, places=some)
     refuse_many(book)
-    if len(targets_of(book[2])) == 0:
-        return 0
     graces = turning_graces(book)
     low, high = 0, len(graces) - 1
     if comeback_of(book, graces[high], some) is not None:

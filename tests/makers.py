@@ -143,3 +143,16 @@ def all_parts(book, number):
 def all_worlds(book):
     """All WORLDS of a BOOK."""
     return product(*[all_parts(book, number) for number in range(len(book[2]))])
+
+
+def random_world(rng, book, quiet=0.5):
+    """One WORLD of a BOOK; its letters come now and then."""
+    world = []
+    for number, deed in enumerate(book[2]):
+        slots = [slot for slot in letter_slots(book, number) if rng.random() > quiet]
+        if deed[0] in ("put", "strike"):
+            takers = sorted(set(rng.choice(deed[4])) | {home for home in deed[3] if rng.random() < 0.2})
+            world.append((tuple(takers), tuple(sorted(slots))))
+        else:
+            world.append(tuple(moment for _, moment in slots))
+    return tuple(world)

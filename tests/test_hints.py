@@ -5,7 +5,7 @@ import unittest
 from itertools import combinations, product
 
 from hintring import errors
-from hintring.books import last, versions
+from hintring.books import last, renamed, versions
 from hintring.families import by_count
 from hintring.hints import (counts_from, fewest_falls, first_there, given_back, is_boxes, keeps_to, least_gifts,
                             noted_homes, throw_paper)
@@ -58,7 +58,8 @@ def random_cases(seed, count):
     rng, found = random.Random(seed), []
     for _ in range(count):
         boxes = random_boxes(rng, 5, rng.choice((1, 2, 2)))
-        found.append((kept_book(rng, 5, boxes, rng.randrange(1, 7)), boxes))
+        book, names = kept_book(rng, 5, boxes, rng.randrange(1, 7)), rng.sample(range(5), 5)
+        found.append((renamed(book, names), tuple(sorted(tuple(names[place] for place in row) for row in boxes))))
     return found
 
 
@@ -268,6 +269,7 @@ class Gifts(Case):
         self.assertIsNone(least_gifts(KEPT, BOXES, (0, 1, 3), 2, 1, 0))
         self.assertEqual(least_gifts(KEPT, BOXES, (0, 1, 2), 2, 1, 1), ((4, 2),))
         self.assertEqual(fewest_falls(KEPT, (), 1), (0, 1))
+        self.assertEqual(fewest_falls((4, 0, (("put", 0, 1, (0,), ((0,),)),)), ((0, 3, 2),), 1), (3,))
         self.assertEqual(fewest_falls((2, 0, ()), (), 1), ())
         self.assertEqual(fewest_falls((2, 0, (("put", 0, 1, (0, 1), ((0, 1),)),)), (), 1), (0, 1))
 

@@ -14,7 +14,7 @@ from hintring.logs import (backs, blame, breaks_at, can_be, fence_of, is_log, is
 from hintring.worlds import fits, is_world
 from tests import oracles
 from tests.cases import Case
-from tests.makers import all_worlds, random_book, small_books, subsets, when
+from tests.makers import all_worlds, random_book, random_world, small_books, subsets, when
 
 TWO_OF = ((0, 1), (0, 2), (1, 2))
 PLAIN = (3, 2, (("put", 0, 1, (0, 1, 2), TWO_OF),))
@@ -293,6 +293,26 @@ class LongerBooks(Case):
                 for one, other in product(subsets(range(3)), repeat=2):
                     self.check_pair(book, cells, one, other)
 
+    def test_logs_that_a_world_keeps(self):
+        """One home takes each write, so all others have it by copies and sends alone."""
+        rng, sent = random.Random(312), 0
+        kinds = ("put", "send", "send", "send", "send", "copy", "lose", "wait")
+        for _ in range(5000):
+            book = random_book(rng, rng.choice((3, 4)), rng.randrange(6, 13), life=rng.randrange(2, 9), kinds=kinds)
+            home = (rng.randrange(2),)
+            book = book[:2] + (tuple(deed[:3] + (home, (home,)) if oracles.is_written(deed) else deed
+                                     for deed in book[2]),)
+            rows = oracles.play(book, random_world(rng, book, 0.4))[0]
+            log = tuple((moment, some, oracles.read(rows[moment], some)) for moment, some in sorted(
+                (rng.randrange(last(book) + 1), (place,)) for place in range(1, book[0])))
+            sends = sum(deed[0] == "send" for deed in book[2])
+            if len({version for _, _, version in log} | {0}) ** sends <= 700:
+                world = log_world(book, log)
+                self.assertTrue(is_world(book, world), (book, log))
+                self.assertTrue(keeps(oracles.play(book, world)[0], log), (book, log))
+                sent += sum(deed[0] == "send" and part != () for deed, part in zip(book[2], world)) > 1
+        self.assertGreater(sent, 40)
+
     def check_pair(self, book, cells, one, other):
         told = {(oracles.read(row, one), oracles.read(row, other)) for row in cells}
         end = last(book)
@@ -428,6 +448,21 @@ class Edges(Case):
         self.assertIsNone(log_world(PLAIN, ((0, (0,), 1),)))
         self.assertEqual(surely_took(PLAIN, ((1, (0,), 7),), 1), None)
 
+    def test_letters_that_must_come_just_then(self):
+        put = ("put", 0, 1, (0,), ((0,),))
+        for deeds, log, letter in (
+                ((("send", 0, 0, 1), ("copy", 0, 0, 1), ("lose", 0, 1)), ((4, (1,), 1),), (1, 4)),
+                ((("send", 0, 0, 1), ("copy", 0, 0, 2)), ((2, (0,), 1), (2, (1,), 0), (3, (1,), 1)), (1, 3)),
+                ((("send", 0, 0, 1), ("lose", 50, 2)), ((3, (1,), 1),), (1, 2)),
+                ((("send", 0, 0, 1), ("copy", 0, 2, 1)), ((2, (1,), 0), (3, (1,), 1)), (1, 3)),
+                ((("send", 0, 0, 1), ("lose", 50, 1), ("send", 50, 0, 1)), ((2, (1,), 1), (4, (1,), 1)), (3, 4)),
+                ((("send", 0, 0, 2), ("send", 0, 2, 1), ("lose", 0, 2)), ((4, (1,), 1), (4, (2,), 0)), (1, 2))):
+            book = (3, 5, (put,) + deeds)
+            world = log_world(book, log)
+            self.assertTrue(is_world(book, world))
+            self.assertTrue(keeps(oracles.play(book, world)[0], log))
+            self.assertIn(letter[1], world[letter[0]])
+
     def test_entries_ahead_of_all(self):
         self.assertIs(can_be(PLAIN, ((0, (0, 1, 2), 0), (1, (0, 1), 1))), True)
         self.assertEqual(next_answers(PLAIN, (), 0, (0, 1, 2)), (0,))
@@ -454,7 +489,7 @@ class Edges(Case):
 
     def test_refusals_of_markings(self):
         log = ((3, (0,), 1),)
-        for marking in ((), (0, 0), (2,), (-1,), ("0",), (None,), ((0,),)):
+        for marking in ((), (0, 0), (2,), (-1,), (True,), (False,), ("0",), (None,), ((0,),), None, 0, "0"):
             for args in ((fence_of, 1), (reach_of, 1), (breaks_at,)):
                 self.assertRaises(errors.Unfit, args[0], COVERED, log, marking, *args[1:])
         for version in (-1, 0, 2):

@@ -113,6 +113,25 @@ class Trails(Case):
             self.assertTrue(parts(book, takers, some, version, told))
             self.assertEqual(len(told), len(trails_apart(book, takers, some, version)))
 
+    def test_earlier_trails_are_led_anew(self):
+        # The first trail found goes from 0 to 2, over the only POINT by which 1 can come.
+        deeds = (("put", 0, 1, (0, 1), ((0, 1),)), ("copy", 1, 0, 3), ("copy", 2, 0, 2), ("copy", 3, 1, 2),
+                 ("lose", 4, 0), ("lose", 4, 1))
+        self.assertEqual(trails_apart((4, 0, deeds), ((0, 1),), (2, 3), 1),
+                         ((1, (0, 3, 3, 3, 3, 3)), (1, (1, 1, 1, 2, 2, 2))))
+        for book, takers, some, version in random_cases(805, 150, 5, (8, 10, 12)):
+            told = trails_apart(book, takers, some, version)
+            self.assertEqual(len(told), len(least_cut(book, takers, some, version)))
+            for moment, road in told:
+                self.assertIn(road[-1], some)
+                self.assertEqual(moment + len(road), last(book) + 1)
+                self.assertTrue(any(moment == number + 1 and road[0] in lot
+                                    for number, lot in zip(writes_from(book, version), takers)))
+                for at, (one, other) in enumerate(zip(road, road[1:])):
+                    self.assertIn((one, other), oracles.all_roads(book, moment + at, one, moment + at + 1))
+            for one, other in combinations(told, 2):
+                self.assertFalse(points_of(one) & points_of(other))
+
     def test_no_smaller_cut_parts(self):
         for book, takers, some, version in self.CASES[::3]:
             size = len(least_cut(book, takers, some, version))

@@ -369,7 +369,7 @@ class Things(Case):
                       ((0,), (1,), ((0,),)), ((0,), (1,), ((0, 1, 2),)), ((0,), (1,), ([0, 1],)),
                       ((0,), (1,), ((0, 0),)), ((0,), (1,), ((0, True),)), ((0,), (1,), ((0, -1),)),
                       ((0,), (1,), (0, 1)), ((0,), (1,), None), (("0",), (1,), ()), (None, (1,), ()),
-                      ((0,), (1,), (("0", 1),)), ("01", (1,), ())):
+                      ((0,), (1,), (("0", 1),)), ("01", (1,), ()), ((0,), (1,), ((-1, 0),))):
             self.assertIs(is_move(thing), False, thing)
 
     def test_is_heirs(self):
@@ -383,6 +383,11 @@ class Things(Case):
                       ((0, 0), (1, 1), (10 ** 30, 2)), ((0, 0), (1, 1), (3, 10 ** 30)), ((0, "0"), (1, 1), (3, 2)),
                       ((0, 0), (1, 1), (3, -1))):
             self.assertIs(is_heirs(move, thing), False, thing)
+
+    def test_no_origin_twice(self):
+        self.assertIs(is_heirs(MOVE, ((0, 0), (1, 1), (3, 0))), False)
+        self.assertIs(is_heirs(((0, 1), (0, 2), ((0, 2), (1, 2))), ((0, 0), (2, 0))), False)
+        self.assertIs(is_heirs(((0, 1), (0, 2), ((0, 2), (1, 2))), ((0, 0), (2, 1))), True)
 
     def test_is_losing_lot_and_is_short_lot(self):
         self.assertIs(is_losing_lot(MOVE, 2, 2, (0, 3)), True)

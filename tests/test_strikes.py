@@ -11,7 +11,7 @@ from hintring.strikes import (cells_in_time, comeback, ended, is_comeback, least
 from hintring.worlds import cells_at, is_world
 from tests import oracles
 from tests.cases import Case
-from tests.makers import all_worlds, random_book, small_books, subsets, world_count
+from tests.makers import all_worlds, random_book, random_world, small_books, subsets, world_count
 
 TWO_OF = ((0, 1), (0, 2), (1, 2))
 FIRST, GONE = ("put", 0, 1, (0, 1, 2), TWO_OF), ("strike", 1, 2, (0, 1, 2), TWO_OF)
@@ -234,6 +234,49 @@ class AllWorlds(Case):
                 for some in subsets(range(book[0])):
                     told = [oracles.read(cells, some) for cells in (stay, end)]
                     self.assertEqual(*[one if one in puts else None for one in told])
+
+
+class LongerBooks(Case):
+    KINDS = ("put", "put", "strike", "strike", "strike", "copy", "copy", "send", "send", "lose", "wait")
+
+    def books(self, seed, count):
+        rng, found = random.Random(seed), []
+        while len(found) < count:
+            book = random_book(rng, 4, rng.randrange(7, 12), kinds=self.KINDS)
+            ways = 1
+            for deed in book[2]:
+                ways *= len(deed[4]) if oracles.is_written(deed) else 1
+            if ways <= 1000:
+                found.append(book)
+        return found
+
+    def test_what_comes_back_does(self):
+        met = 0
+        for book in self.books(410, 400):
+            for grace in (0, 2, 5):
+                for some in ((0,), (1, 2), (0, 1, 2, 3)):
+                    told = comeback(book, grace, some)
+                    if told is not None:
+                        moment, world = told
+                        timed = waits_put_in(book, grace)
+                        self.assertTrue(is_world(timed, world))
+                        rows = play_in_time(timed, world, grace)
+                        self.assertTrue(brings_back(book, timed, grace, rows, moment, some))
+                        met += 1
+        self.assertGreater(met, 300)
+
+    def test_what_comes_back_in_some_world_is_found(self):
+        rng, met = random.Random(411), 0
+        for book in self.books(412, 150):
+            grace = rng.randrange(0, 6)
+            timed = waits_put_in(book, grace)
+            for _ in range(15):
+                rows = play_in_time(timed, random_world(rng, timed), grace)
+                for some in ((0,), (1, 2), (0, 1, 2, 3)):
+                    if any(brings_back(book, timed, grace, rows, k, some) for k in range(last(timed) + 1)):
+                        self.assertIsNotNone(comeback(book, grace, some))
+                        met += 1
+        self.assertGreater(met, 300)
 
 
 class Ends(Case):
