@@ -2,7 +2,7 @@
 
 from hintring.deeds import is_write, refuse, write_numbers, write_with
 from hintring.errors import NoVersion, TooMany, Unfit
-from hintring.fences import (Case, below, can_do, doing, first_unreached, has_room_beside, level_of, marked_sends,
+from hintring.fences import (Quest, below, can_do, doing, first_unreached, has_room_beside, level_of, marked_sends,
                              marks_of, reach_masks, rows_of)
 from hintring.instead import all_told
 from hintring.masks import has_place, lot_of, mask_of, masks_of
@@ -48,61 +48,61 @@ def can_be(book, log):
     """Whether some WORLD keeps the LOG."""
     book, log = frozen(book), frozen(log)
     refuse_many(book, told_in(log))
-    return can_do(Case(book, log, ()))
+    return can_do(Quest(book, log, ()))
 
 
 def log_world(book, log):
     """A WORLD that keeps the LOG; None if there is none."""
     book, log = frozen(book), frozen(log)
     refuse_many(book, told_in(log))
-    case = Case(book, log, ())
-    found = doing(case, 1)
+    quest = Quest(book, log, ())
+    found = doing(quest, 1)
     if len(found) == 0:
         return None
     marking, rows = found[0]
     letters = {}
-    for moment, mask, version in case.asked:
+    for moment, mask, version in quest.asked:
         if version > 0:
-            reach = reach_masks(case, marking, rows, version)
+            reach = reach_masks(quest, marking, rows, version)
             place = lot_of(reach[moment] & mask)[0]
-            for letter in letters_to(case, marking, reach, version, (moment, place)):
+            for letter in letters_to(quest, marking, reach, version, (moment, place)):
                 letters[letter] = True
-    return world_with(case, rows, sorted(letters))
+    return world_with(quest, rows, sorted(letters))
 
 
-def letters_to(case, marking, reach, version, stand):
+def letters_to(quest, marking, reach, version, stand):
     """The letters (number, place, moment) by which this VERSION comes to a STAND of its REACH."""
-    marks = marked_sends(case, marking)
-    born = write_with(case.deeds, version)
+    marks = marked_sends(quest, marking)
+    born = write_with(quest.deeds, version)
     found = []
     while stand is not None:
         moment, place = stand
-        if moment in case.comes[born] and place in case.deeds[born][3]:
+        if moment in quest.comes[born] and place in quest.deeds[born][3]:
             found.append((born, place, moment))
             stand = None
         else:
-            stand = stand_ahead(case, reach, moment, place)
+            stand = stand_ahead(quest, reach, moment, place)
             if stand is None:
-                number = sender_to(case, marks, reach, version, (moment, place))
+                number = sender_to(quest, marks, reach, version, (moment, place))
                 found.append((number, place, moment))
-                stand = (number, case.deeds[number][2])
+                stand = (number, quest.deeds[number][2])
     return found
 
 
-def sender_to(case, marks, reach, version, stand):
+def sender_to(quest, marks, reach, version, stand):
     """The number of a send marked with this VERSION that hands it on from REACH to this STAND."""
     moment, place = stand
     for number in marks:
-        deed = case.deeds[number]
-        if marks[number] == version and deed[3] == place and moment in case.comes[number]:
+        deed = quest.deeds[number]
+        if marks[number] == version and deed[3] == place and moment in quest.comes[number]:
             if has_place(reach[number], deed[2]):
                 return number
     return None
 
 
-def stand_ahead(case, reach, moment, place):
+def stand_ahead(quest, reach, moment, place):
     """The STAND of REACH a MOMENT ago from which it is carried on there without a letter."""
-    deed = case.deeds[moment - 1]
+    deed = quest.deeds[moment - 1]
     if has_place(reach[moment - 1], place) and (deed[0] != "lose" or deed[2] != place):
         return moment - 1, place
     if deed[0] == "copy" and deed[3] == place and has_place(reach[moment - 1], deed[2]):
@@ -110,14 +110,14 @@ def stand_ahead(case, reach, moment, place):
     return None
 
 
-def world_with(case, rows, letters):
+def world_with(quest, rows, letters):
     """The WORLD with just these letters (number, place, moment), in which the first LOT that
     may take it takes each write, with these FENCES."""
     world = []
-    for number, deed in enumerate(case.deeds):
+    for number, deed in enumerate(quest.deeds):
         ours = [letter[1:] for letter in letters if letter[0] == number]
         if is_write(deed):
-            at = first_free(case.lots[number], rows[number + 1][below(case, number)])
+            at = first_free(quest.lots[number], rows[number + 1][below(quest, number)])
             world.append((deed[4][at], tuple(ours)))
         else:
             world.append(tuple([moment for _, moment in ours]))
@@ -137,14 +137,14 @@ def next_answers(book, log, moment, some):
     book, log, some = frozen(book), frozen(log), frozen(some)
     refuse_entry(book, log, some, moment, told_in(log) + 1)
     return tuple([version for version in all_told((book[0], book[1], book[2][:moment]), some)
-                  if can_do(Case(book, log + ((moment, some, version),), ()))])
+                  if can_do(Quest(book, log + ((moment, some, version),), ()))])
 
 
 def sure_lot(book, log, moment, owners):
     """The first LOT of the fewest owners of which a further read can tell just one thing."""
     book, log, owners = frozen(book), frozen(log), frozen(owners)
     refuse_entry(book, log, owners, moment, told_in(log) + 1)
-    if not can_do(Case(book, log, ())):
+    if not can_do(Quest(book, log, ())):
         return None
     tops = {place: greatest_next(book, log, moment, place) for place in owners}
     lowered = {}
@@ -163,14 +163,14 @@ def sure_lot(book, log, moment, owners):
 def greatest_next(book, log, moment, place):
     """The greatest that a further read of this PLACE alone may tell, of a LOG that can be."""
     for version in reversed(all_told((book[0], book[1], book[2][:moment]), (place,))):
-        if can_do(Case(book, log + ((moment, (place,), version),), ())):
+        if can_do(Quest(book, log + ((moment, (place,), version),), ())):
             return version
     return 0
 
 
 def can_be_below(book, log, moment, some, top):
     """Whether the LOG can be while each of some holds less than top at this MOMENT."""
-    return can_do(Case(book, log, ((moment, some, top - 1),)))
+    return can_do(Quest(book, log, ((moment, some, top - 1),)))
 
 
 def backs(book, moment, some, after, other):
@@ -221,31 +221,31 @@ def blame(book, log):
         for some in choices(tuple(range(len(log))), size):
             if not any([all([at in some for at in one]) for one in found]):
                 rest = tuple([entry for at, entry in enumerate(log) if at not in some])
-                if can_do(Case(book, rest, ())):
+                if can_do(Quest(book, rest, ())):
                     found.append(some)
     return tuple(sorted(found))
 
 
 def fences_behind(book, log, version):
-    """The number of the write of this VERSION, the Case, and for each MARKING that does the
+    """The number of the write of this VERSION, the Quest, and for each MARKING that does the
     LOT, as a mask, that can not have taken it."""
     number = write_with(book[2], version)
     if number is None:
         raise NoVersion(version)
     refuse_many(book, told_in(log))
-    case = Case(book, log, ())
-    level = below(case, number)
-    return number, case, sorted(set([rows[number + 1][level] for _, rows in doing(case, MOST_MARKINGS)]))
+    quest = Quest(book, log, ())
+    level = below(quest, number)
+    return number, quest, sorted(set([rows[number + 1][level] for _, rows in doing(quest, MOST_MARKINGS)]))
 
 
 def surely_took(book, log, version):
     """The homes of this write that took it in each WORLD that keeps the LOG; None without one."""
     book, log = frozen(book), frozen(log)
-    number, case, masks = fences_behind(book, log, version)
+    number, quest, masks = fences_behind(book, log, version)
     if len(masks) == 0:
         return None
     return tuple([place for place in book[2][number][3]
-                  if not any([has_room_beside(case, number, mask | (1 << place)) for mask in masks])])
+                  if not any([has_room_beside(quest, number, mask | (1 << place)) for mask in masks])])
 
 
 def may_have_taken(book, log, version):
@@ -280,9 +280,9 @@ def fence_of(book, log, marking, number):
     """FENCE number of this MARKING: one LOT for each MOMENT."""
     book, log, marking = frozen(book), frozen(log), frozen(marking)
     refuse_marking(book, log, marking)
-    case = Case(book, log, ())
-    level = level_of(case.levels, number)
-    return lots_of([masks[level] for masks in rows_of(case, marking)])
+    quest = Quest(book, log, ())
+    level = level_of(quest.levels, number)
+    return lots_of([masks[level] for masks in rows_of(quest, marking)])
 
 
 def reach_of(book, log, marking, version):
@@ -291,8 +291,8 @@ def reach_of(book, log, marking, version):
     if version < 1 or version not in marks_of(log):
         raise NoVersion(version)
     refuse_marking(book, log, marking)
-    case = Case(book, log, ())
-    return lots_of(reach_masks(case, marking, rows_of(case, marking), version))
+    quest = Quest(book, log, ())
+    return lots_of(reach_masks(quest, marking, rows_of(quest, marking), version))
 
 
 def breaks_at(book, log, marking):
@@ -300,34 +300,34 @@ def breaks_at(book, log, marking):
     else the first entry that nothing reaches."""
     book, log, marking = frozen(book), frozen(log), frozen(marking)
     refuse_marking(book, log, marking)
-    case = Case(book, log, ())
-    rows = rows_of(case, marking)
-    for number in write_numbers(case.deeds):
-        level = below(case, number)
+    quest = Quest(book, log, ())
+    rows = rows_of(quest, marking)
+    for number in write_numbers(quest.deeds):
+        level = below(quest, number)
         mask = rows[number + 1][level]
-        if not has_room_beside(case, number, mask):
-            homes = [place for place in case.deeds[number][3] if has_place(mask, place)]
-            marks = marked_sends(case, marking)
-            return number, tuple([road_held(case, marks, rows, level, (number + 1, place)) for place in homes])
-    return first_unreached(case, marking, rows)
+        if not has_room_beside(quest, number, mask):
+            homes = [place for place in quest.deeds[number][3] if has_place(mask, place)]
+            marks = marked_sends(quest, marking)
+            return number, tuple([road_held(quest, marks, rows, level, (number + 1, place)) for place in homes])
+    return first_unreached(quest, marking, rows)
 
 
-def road_held(case, marks, rows, level, stand):
+def road_held(quest, marks, rows, level, stand):
     """A road from a STAND of the FENCE of this level to one that must hold so little."""
     moment, place = stand
     steps = [place]
-    while not is_held(case, marks, level, moment, steps[-1]):
+    while not is_held(quest, marks, level, moment, steps[-1]):
         if has_place(rows[moment + 1][level], steps[-1]):
             steps.append(steps[-1])
         else:
-            steps.append(case.deeds[moment][3])
+            steps.append(quest.deeds[moment][3])
         moment = moment + 1
     return tuple(steps)
 
 
-def is_held(case, marks, level, moment, place):
+def is_held(quest, marks, level, moment, place):
     """Whether an entry, or a marked send, itself asks for so little there then."""
-    if any([one <= level and has_place(mask, place) for one, mask in case.pins[moment]]):
+    if any([one <= level and has_place(mask, place) for one, mask in quest.pins[moment]]):
         return True
     mark = marks.get(moment, 0)
-    return mark > 0 and level_of(case.levels, mark) <= level and case.deeds[moment][2] == place
+    return mark > 0 and level_of(quest.levels, mark) <= level and quest.deeds[moment][2] == place

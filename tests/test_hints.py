@@ -159,6 +159,13 @@ class Given(Case):
         late = (5, 2, (PUT, ("copy", 3, 4, 2), ("lose", 4, 4), ("lose", 5, 2)))
         self.assertEqual((given_back(late, BOXES, 0), counts_from(late, BOXES, 0, 4)), ((), 2))
 
+    def test_a_write_without_homes(self):
+        book = (5, 2, (("put", 0, 1, (), ((),)), ("copy", 1, 4, 2)))
+        self.assertEqual((given_back(book, BOXES, 0), counts_from(book, BOXES, 0, 4)), ((), 2))
+        self.assertIsNone(throw_paper(book, BOXES, 4))
+        self.assertEqual(fewest_falls(book, BOXES, 1), ())
+        self.assertIsNone(least_gifts(book, BOXES, (0, 2), 1, 1, 3))
+
     def test_a_home_that_is_there_again(self):
         again = (5, 2, (PUT, ("put", 1, 2, (0, 1, 2), by_count((0, 1, 2), 2))))
         self.assertIsNotNone(throw_paper(KEPT, BOXES, 4))

@@ -438,6 +438,12 @@ class Edges(Case):
         self.assertIs(is_rising(PLAIN, ((1, (0,)), (1, ()))), False)
         self.assertIsNone(sure_lot(PLAIN, (), 1, ()))
 
+    def test_a_write_without_homes(self):
+        book = (2, 0, (("put", 0, 1, (), ((),)),))
+        self.assertEqual((surely_took(book, (), 1), may_have_taken(book, (), 1)), ((), ()))
+        self.assertEqual(next_answers(book, (), 1, (0, 1)), (0,))
+        self.assertEqual((can_be(book, ((1, (0, 1), 1),)), blame(book, ((1, (0, 1), 1),))), (False, ((0,),)))
+
     def test_versions_that_the_book_does_not_have(self):
         self.assertIs(can_be(PLAIN, ((1, (0, 1, 2), 2),)), False)
         self.assertEqual(blame(PLAIN, ((1, (0, 1, 2), 2), (1, (0,), 0))), ((0,),))

@@ -248,6 +248,13 @@ class Edges(Case):
         nobody = (2, 0, (("put", 0, 1, (0, 1), ((),)),))
         self.assertEqual((least_losses(nobody, (0, 1), 1), worst_cut(nobody, (0, 1), 1)), (0, (((),), ())))
 
+    def test_a_write_without_homes(self):
+        book = (2, 0, (("put", 0, 1, (), ((),)), ("put", 0, 2, (0,), ((0,),))))
+        self.assertEqual((least_losses(book, (0, 1), 1), worst_cut(book, (0, 1), 1)), (1, (((), (0,)), ((2, 0),))))
+        self.assertEqual(trails_apart(book, ((), (0,)), (0, 1), 1), ((2, (0,)),))
+        self.assertEqual(least_losses(book, (1,), 1), 0)
+        self.assertEqual(least_losses((2, 0, book[2][:1]), (0, 1), 1), 0)
+
     def test_owners_are_too_few(self):
         self.assertIsNone(losses_borne(PLAIN, (0, 1), 3, 1))
         self.assertIsNone(losses_borne(PLAIN, (), 1, 2))
