@@ -55,7 +55,11 @@ def log_world(book, log):
     """A WORLD that keeps the LOG; None if there is none."""
     book, log = frozen(book), frozen(log)
     refuse_many(book, told_in(log))
-    quest = Quest(book, log, ())
+    return world_in(Quest(book, log, ()))
+
+
+def world_in(quest):
+    """A WORLD in which all is as the Quest asks; None if there is none."""
     found = doing(quest, 1)
     if len(found) == 0:
         return None
@@ -203,13 +207,28 @@ def told_back(book, moment, some, after, other):
 
 def is_rising(book, asks):
     """Whether in no WORLD one of these reads tells less than one ahead of it."""
-    book, asks = frozen(book), frozen(asks)
+    return first_fall(frozen(book), frozen(asks)) is None
+
+
+def first_fall(book, asks):
+    """The first two reads of which the later one can tell less: what the one ahead can tell
+    then, as an entry, and what the other one may tell at most; None if there are none."""
     refuse_many(book, 1)
     for at, (after, other) in enumerate(asks):
         for moment, some in asks[:at]:
-            if told_back(book, moment, some, after, other) != ():
-                return False
-    return True
+            told = told_back(book, moment, some, after, other)
+            if told != ():
+                return (moment, some, told[0]), (after, other, told[0] - 1)
+    return None
+
+
+def falling_world(book, asks):
+    """A WORLD in which one of these reads tells less than one ahead of it; None if there is none."""
+    fall = first_fall(book, asks)
+    if fall is None:
+        return None
+    entry, cap = fall
+    return world_in(Quest(book, (entry,), (cap,)))
 
 
 def blame(book, log):

@@ -149,7 +149,25 @@ def worst_cut(book, some, version):
     offers = family_offers(book, version)
     refuse_many(offers)
     _, points, lots = cut_to(cut_layers(book, offers), some)
-    return tuple([book[2][number][4][at] for number, at in zip(sorted(offers), lots)]), points
+    return takers_at(book, offers, lots), points
+
+
+def takers_at(book, offers, lots):
+    """The LOTS at these positions of the families of these writes."""
+    return tuple([book[2][number][4][at] for number, at in zip(sorted(offers), lots)])
+
+
+def cut_below(book, owners, asked, version, losses):
+    """For the first LOT of so many owners that can miss it behind a cut of at most so many POINTS
+    a triple (lot, takers, cut) that shows it; None if there is none."""
+    offers = family_offers(book, version)
+    refuse_many(offers)
+    layer = cut_layers(book, offers)
+    for some in choices(owners, asked):
+        count, points, lots = cut_to(layer, some)
+        if count <= losses:
+            return some, takers_at(book, offers, lots), points
+    return None
 
 
 def losses_borne(book, owners, asked, version):

@@ -89,7 +89,11 @@ def is_comeback(book, grace, some, thing):
 
 def least_grace(book, some):
     """The least grace with which some bring nothing back; None if they do with each one."""
-    book, some = frozen(book), frozen(some)
+    return grace_of(frozen(book), frozen(some))
+
+
+def grace_of(book, some):
+    """The same of tuples."""
     refuse(book, places=some)
     refuse_many(book)
     graces = turning_graces(book)

@@ -174,6 +174,26 @@ def past_by_roads(book, some, moment):
                  for start in range(moment + 1))
 
 
+def past_walk(deeds, some):
+    """The PAST of some behind these DEEDS, walked from the last MOMENT back to the first one."""
+    lots = [set(some)]
+    for deed in reversed(deeds):
+        now = set(lots[-1])
+        if deed[0] == "copy" and deed[3] in now:
+            now.add(deed[2])
+        elif deed[0] == "lose":
+            now.discard(deed[2])
+        lots.append(now)
+    return lots[::-1]
+
+
+def misses(book, some, version):
+    """Whether some can miss version: each write from it has room beside the PAST."""
+    lots = past_walk(book[2], some)
+    return all(any(not set(lot) & lots[number + 1] for lot in deed[4])
+               for number, deed in enumerate(book[2]) if is_written(deed) and deed[2] >= version)
+
+
 # Ways
 
 def all_ways(book, version):

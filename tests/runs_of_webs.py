@@ -1,6 +1,5 @@
 """All RUNS of a WEB, tick by tick: each choice of ticks, each order within a tick."""
 
-import random
 from functools import lru_cache
 from itertools import product
 

@@ -2,13 +2,11 @@
 
 import unittest
 
-from hintring import (books, errors, families, hints, hours, instead, lags, logs, losses, misses, moves, pasts, rings,
-                      strikes, talk, worlds)
+from hintring import errors
+from hintring.board import Board
+from tests.test_interface import all_functions, function
 
-MODULES = (rings, books, worlds, families, pasts, misses, instead, logs, strikes, hours, lags, moves, hints, talk,
-           losses)
-
-EXAMPLES = """
+EXAMPLES = r"""
 # rings
 >>> ring = (50, ((10, 0), (20, 1), (30, 2), (40, 0)))
 >>> line_of(ring, 15), line_of(ring, 41), owners_of(ring, 25, 2), owners_by_sites(ring, (7, 7, 4), 41, 2), sections((ring,))
@@ -161,6 +159,18 @@ True
 (2, 4, (0, 1), False)
 >>> late_miss(late, (2, 0, (("put", 0, 1, (0,), ((0,),)),)), asks, (one, one, two), ((0,), (0,), (1,)), 1)
 (1, 2)
+# mends
+>>> stays = (4, 2, (("put", 0, 1, (0, 1, 2), two_of), ("copy", 4, 0, 3)))
+>>> leaves = (4, 2, (("put", 0, 1, (0, 1, 2), two_of), ("copy", 4, 2, 3)))
+>>> chain((0, 2, 3)), helpers(stays, (0, 3), 1), helpers(leaves, (0, 3), 1)
+(((0, 2), (2, 3), (3, 2), (2, 0)), [(1,), (2,)], [()])
+>>> asked = ((0, 1), (0, 3), (1, 3))
+>>> cheapest_mend(leaves, asked, 1, 2), cheapest_mend(stays, asked, 1, 0), len(cheapest_mend(stays, asked, 1, 2))
+((), None, 1)
+>>> mends_it(stays, asked, 1, ((1, 0),)), enough_at(stays, (1, 3), asked, 1), safe_from(leaves, ((0, 3),), 1)
+(True, (1, 2), 2)
+>>> blamed(leaves, (0, 3), 1), worth(leaves, (0, 3), 1, 1), mended(leaves, 1, (0, 1))[2][1:]
+((1,), 1, (('copy', 0, 0, 1), ('copy', 0, 1, 0), ('copy', 4, 2, 3)))
 # losses
 >>> trails_apart(taken_over, ((0, 1),), (1, 3), 1), len(least_cut(taken_over, ((0, 1),), (1, 3), 1))
 (((1, (0, 3)), (1, (1, 1))), 2)
@@ -174,15 +184,118 @@ True
 >>> twins = (2, 0, (("put", 0, 1, (0,), ((0,),)), ("put", 0, 2, (1,), ((1,),))))
 >>> least_losses(twins, (0, 1), 1), least_losses(twins, (0, 1), 2), with_cut(plain, ((1, 0),))[2][1]
 (2, 1, ('lose', 0, 0))
+# sums
+>>> tree, one, other = (2, 2, 97, 10), ((0, 1), (2, 4), (3, 2)), ((0, 1), (2, 5), (3, 2))
+>>> sum_of(tree, one, 0, 4), sum_of(tree, one, 0, 2), sum_of(tree, one, 2, 4), join_sums(tree, (1, 64), (2, 92))
+((3, 90), (1, 64), (2, 92), (3, 90))
+>>> compare(tree, one, other), least_proof(tree, one, other), compare((2, 1, 2, 1), ((0, 1),), ((0, 2),))
+(((2,), 5), 3, ((), 1))
+>>> is_tree((2, 6, 97, 10)), is_tree((2, 7, 97, 10)), is_rows(tree, one), is_rows(tree, ((4, 1),))
+(True, False, True, False)
+>>> sum_of(tree, one, 3, 2)
+raises Unfit()
+# runs
+>>> runs = ((0, 1), (1, 3)), ((0, 4),), ((1, 2),)
+>>> [shown(runs, (4,), key) for key in (0, 1, 2)], may_drop(runs, (4,), (0, 1), 0), may_drop(runs, (4,), (1, 2), 0)
+([0, 3, 0], True, False)
+>>> poured(runs, (4,), (0, 1), 9), poured(runs, (4,), (0, 1), 3)
+((((1, 2),), ((1, 3),)), (((1, 2),), ((0, 4), (1, 3))))
+>>> taking_order(runs, (4,), (0, 1), 9), taking_order((((0, 3), (1, 2)), ((0, 1),)), (3,), (0, 1), 9)
+((0, 1), (1, 0))
+>>> taking_order((((0, 1), (1, 4)), ((0, 3), (1, 2))), (3, 4), (0, 1), 9) is None, is_runs((((1, 2), (0, 1)),))
+(True, False)
+# rounds
+>>> play(2, (("ask", 0, 2), ("take", 0, 1, 7), ("take", 0, 2, 7), ("copy", 0, 1), ("ask", 1, 3)))
+(((2, (2, 7), False), (3, (2, 7), False)), ((0, 0), None, True, None, (2, 7)))
+>>> source(((0, 0), (1, 4), (1, 5))), compare_put(3, 3, 9), compare_put(4, 3, 9)
+((1, 4), 9, 4)
+>>> take, ask, far = ("take", 0, two_of), ("ask", 1, two_of), ("ask", 1, ((1, 3),))
+>>> lost, plan = (3, (take, ("lose", 0), ask)), (4, (take, ("close", 0), ("copy", 0, 3), far))
+>>> can_pass((3, (take, ask))), bare_pass((3, (take, ask))), can_pass(lost), can_pass(plan)
+(False, True, True, False)
+>>> passing = ((), (("take", 0, 0), ("take", 0, 1)), (), (("ask", 1, 0), ("ask", 1, 2)))
+>>> is_fate(lost, passing), is_passed(lost, passing), is_unjoined(lost, ((1, 0),), ((3, 0),)), is_unjoined(lost, ((2, 0),), ((3, 0),))
+(True, True, True, False)
+# store
+>>> ring, other = (12, ((0, 0), (3, 1), (6, 2), (9, 3))), (12, ((0, 0), (3, 1), (6, 2), (8, 4), (9, 3)))
+>>> calm = (3, 5, (ring,), (("put", 0, 1, 7, 0, 2),))
+>>> owner_lot(calm, 0, 7), stretches(calm), book_of(calm, 7)[2]
+((0, 1, 3), ((1, 3), (4, 6), (7, 9), (10, 0)), (('put', 0, 1, (0, 1, 3), ((0, 1), (0, 3), (1, 3))),))
+>>> grown = with_ring(calm, other, 4)
+>>> missed(calm, 0, 1), grown[3][1:]
+((1,), (('pour', 4, 3, 4, 1, 3), ('pour', 4, 0, 4, 4, 6), ('pour', 4, 1, 4, 7, 8)))
+>>> missed(grown, 1, 2), is_safe(grown, (1, 0, 2, 1, 2)), weak_stretches(grown, (4, 0, 2, 1, 2))
+((), True, ((1, 3), (4, 6), (7, 8)))
+>>> weak_point(grown, (4, 0, 2, 1, 2))[:2], least_askers(grown, (4, 0, 2, 1, 2)), safe_numbers(grown, 1, 2, 1, 2)
+((1, (1, 4)), 3, (0, 1, 2, 3, 4))
+# judge
+>>> stands(("kept", plain, (0, 1), 1)), is_paper_against(("kept", plain, (0,), 1), (((1, 2), ()),)), is_reason_for(("kept", plain, (0, 1), 1), (0, ((0,), (1,))))
+(True, True, True)
+>>> stands(("silent", taken_over, (2, 3), 0)), is_paper_against(("silent", taken_over, (0, 3), 0), (((1, 2), ()), ())), stands(("never", plain, ((1, (0,), 0), (1, (1,), 0))))
+(True, True, True)
+>>> stands(("bears", plain, (0, 1, 2), 3, 1, 1)), is_paper_against(("bears", plain, (0, 1, 2), 3, 1, 2), ((0, 1, 2), ((1, 0), (1, 1)), (((0, 1), ()), (), ())))
+(True, True)
+>>> stands(("safe", grown, (4, 0, 2, 1, 2))), is_paper_against(("moved", move, 2, 2), (0, 3)), stands(("meet", two_of, two_of))
+(False, True, True)
+>>> stands(("within", web, ones, ones, 10, 7)), is_paper_against(("within", web, ones, ones, 10, 6), ((0,), (2,)))
+(True, True)
+>>> first_fallen((("kept", plain, (0, 1), 1), ("kept", plain, (0,), 1)))[0], is_claim(("kept", plain, (0, 3), 1))
+(1, False)
+>>> stands(("sure", plain))
+raises Unfit()
+# texts
+>>> book = (3, 2, (("put", 0, 1, (0, 1, 2), ((0, 1), (0, 2), (1, 2))), ("send", 4, 0, 2), ("lose", 5, 0)))
+>>> book_text(book)
+'book 3 2\nput 0 1 0,1,2 0,1+0,2+1,2\nsend 4 0 2\nlose 5 0\n'
+>>> read_book(book_text(book)) == book, read_book("book 2 0\nstrike 3 5 - -"), read_world("")
+(True, (2, 0, (('strike', 3, 5, (), ((),)),)), ())
+>>> world_text((((0, 1), ((2, 1), (2, 2))), (2, 3), ())), read_world("took - -\ncame 7")
+('took 0,1 2:1,2:2\ncame 2,3\nnone\n', (((), ()), (7,)))
+>>> log_text(((2, (0, 1), 5),)), read_ring("ring 8\nspot 0 1\nspot 5 0")
+('read 2 0,1 5\n', (8, ((0, 1), (5, 0))))
+>>> read_book("book 2 0\nput 3 1 0,1 0+0,1")
+raises BadLine(number=1)
+>>> read_book("")
+raises BadLine(number=0)
+>>> read_ring("ring 8\nspot 5 1\nspot 5 0")
+raises BadLine(number=2)
+# board
+>>> two_of = ((0, 1), (0, 2), (1, 2))
+>>> board = Board(3, 2)
+>>> board.put((0, 1), (0, 1, 2), two_of), board.cells(), board.letters()
+(1, (1, 1, 0), ((0, 0), (0, 1), (0, 2)))
+>>> board.send(0, 2), board.wait(2), board.letters(), board.tick(), board.may_miss((0, 2)), board.may_tell((2,))
+(None, None, ((0, 0), (0, 1), (0, 2), (1, 2)), 2, (), (0, 1))
+>>> board.read((2,)), board.answers((2,)), board.answers((0,)), board.letters()
+(0, (0,), (1,), ())
+>>> board.come(1, 2)
+raises CanNot()
+>>> board.wait(0), board.come(1, 2), board.cells(), board.read((2,)), board.world(), board.log()
+(None, None, (1, 1, 1), 1, (((0, 1), ()), (4,), (), ()), ((3, (2,), 0), (4, (2,), 1)))
+>>> other = board.twin()
+>>> board.undo(), board.undo(), board.cells(), other == board, other.least_grace((0, 1))
+(None, None, (1, 1, 0), False, 0)
+>>> board.redo(), board.redo(), other == board
+(None, None, True)
+>>> board.read((0, 3))
+raises NoPlace(number=3)
+# desk
+>>> told = replies(3, 2, "put 0,1 0,1,2 0,1+0,2+1,2\nletters\nwait 2\ncome 0 2\ncells\nread 2\nmiss 2\ntell 2\ntell 0,1\nlog")
+>>> told[:5], told[5:]
+(['1', '0:0,0:1,0:2', 'done', 'done', '1 1 1'], ['1', '1', '0,1', '1', 'read 2 2 1'])
+>>> replies(2, 1, "copy 0 0\ncopy 0 2\nput 0 0,1 0,1\nundo\ncome 0 1\nletters\nlog\nbook\ncells")
+['refused Unfit', 'refused NoPlace', 'refused Unfit', 'refused NothingDone', 'refused NoDeed', '-', '-', 'book 2 1', '0 0']
+>>> is_request("put 1,0 0,1 0"), is_request("put 0 0,1 0+0,1"), is_request("strike - - -"), is_request("wait 007"), is_request("tell -")
+(False, False, True, False, True)
+>>> replies(2, 1, "tick\n tick")
+raises BadLine(number=1)
 """
 
 
 def all_names():
-    """What an example may call: the functions of all modules."""
-    names = {}
-    for module in MODULES:
-        names.update({name: worth for name, worth in vars(module).items()
-                      if getattr(worth, "__module__", None) == module.__name__})
+    """What an example may call: all that the interface lists."""
+    names = {name: function(module, name) for module, name, _ in all_functions()}
+    names["Board"] = Board
     return names
 
 
@@ -265,6 +378,33 @@ class Examples(unittest.TestCase):
 
     def test_losses(self):
         self.check("losses")
+
+    def test_mends(self):
+        self.check("mends")
+
+    def test_sums(self):
+        self.check("sums")
+
+    def test_runs(self):
+        self.check("runs")
+
+    def test_rounds(self):
+        self.check("rounds")
+
+    def test_store(self):
+        self.check("store")
+
+    def test_judge(self):
+        self.check("judge")
+
+    def test_texts(self):
+        self.check("texts")
+
+    def test_board(self):
+        self.check("board")
+
+    def test_desk(self):
+        self.check("desk")
 
 
 if __name__ == "__main__":

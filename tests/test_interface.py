@@ -90,7 +90,35 @@ NAMES = {
         "trails_apart": "book takers some version", "least_cut": "book takers some version",
         "is_parted": "book takers some version cut", "least_losses": "book some version",
         "worst_cut": "book some version", "losses_borne": "book owners asked version",
-        "with_cut": "book cut"}}
+        "with_cut": "book cut"},
+    "mends": {
+        "chain": "some", "mended": "book moment some", "helpers": "book some version",
+        "cheapest_mend": "book lots version most", "mends_it": "book lots version thing",
+        "enough_at": "book some lots version", "safe_from": "book lots version", "blamed": "book some version",
+        "worth": "book some version number"},
+    "sums": {
+        "is_tree": "thing", "is_rows": "tree thing", "sum_of": "tree rows low high", "join_sums": "tree left right",
+        "compare": "tree left right", "least_proof": "tree left right"},
+    "runs": {
+        "is_runs": "thing", "shown": "runs struck key", "may_drop": "runs struck numbers key",
+        "poured": "runs struck numbers version", "taking_order": "runs struck numbers version"},
+    "rounds": {
+        "play": "many events", "source": "answers", "compare_put": "state seen wanted", "is_plan": "thing",
+        "is_fate": "plan thing", "is_passed": "plan passing", "can_pass": "plan", "pass_fate": "plan",
+        "bare_pass": "plan", "is_unjoined": "plan takes answers"},
+    "store": {
+        "is_store": "thing", "is_trial": "store thing", "stretches": "store", "owner_lot": "store epoch point",
+        "book_of": "store point", "missed": "store epoch asked", "trial_book": "store trial point",
+        "fails_at": "store trial point", "weak_stretches": "store trial", "is_safe": "store trial",
+        "weak_point": "store trial", "least_askers": "store trial", "safe_numbers": "store epoch need reader asked",
+        "with_ring": "store ring tick"},
+    "judge": {
+        "is_claim": "thing", "stands": "claim", "paper_against": "claim", "is_paper_against": "claim thing",
+        "first_fallen": "claims", "reason_for": "claim", "is_reason_for": "claim thing"},
+    "texts": {
+        "book_text": "book", "world_text": "world", "log_text": "log", "ring_text": "ring", "read_book": "text",
+        "read_world": "text", "read_log": "text", "read_ring": "text"},
+    "desk": {"is_request": "thing", "reply": "board line", "replies": "many life text"}}
 
 RING = (50, ((10, 0), (20, 1), (30, 2), (40, 0)))
 OTHER = (50, ((10, 0), (20, 1), (25, 3), (30, 2), (40, 0)))
@@ -114,6 +142,13 @@ NOTED = (5, 2, (("put", 0, 1, (0, 2, 3), ((0, 2), (0, 3), (2, 3))), ("copy", 1, 
 TALK = (3, 9, (("say", 0, 0), ("send", 1, 0, 1), ("copy", 2, 1, 2), ("wait", 9)))
 LATE = (3, 0, (("say", 0, 0), ("copy", 1, 0, 1), ("say", 2, 0), ("copy", 3, 1, 2)))
 ONE, TWO = ((0,), ((0,),)), ((1,), ((1,),))
+TREE, ROWS, OTHER_ROWS = (2, 2, 97, 10), ((0, 1), (2, 4), (3, 2)), ((0, 1), (2, 5), (3, 2))
+RUNS = ((0, 1), (1, 3)), ((0, 4),), ((1, 2),)
+PLAN = (3, (("take", 0, TWO_OF), ("lose", 0), ("ask", 1, TWO_OF)))
+PASSING = ((), (("take", 0, 0), ("take", 0, 1)), (), (("ask", 1, 0), ("ask", 1, 2)))
+STORE = (3, 5, (RING, OTHER), (("put", 0, 1, 7, 0, 2), ("pour", 4, 0, 3, 21, 25), ("crash", 5, 1)))
+TRIAL = (1, 0, 2, 1, 2)
+KEPT, MISSED = ("kept", FALLEN, (0, 2), 5), ("kept", FALLEN, (1,), 5)
 
 # Arguments for each function but is_.. of a thing alone.
 CALLS = {
@@ -176,7 +211,26 @@ CALLS = {
     "trails_apart": (FALLEN, ((0, 1),), (0, 2), 5), "least_cut": (FALLEN, ((0, 1),), (0, 2), 5),
     "is_parted": (FALLEN, ((0, 1),), (0, 2), 5, ((1, 0),)), "least_losses": (FALLEN, (0, 2), 5),
     "worst_cut": (FALLEN, (0, 2), 5), "losses_borne": (FALLEN, (0, 1, 2), 2, 5),
-    "with_cut": (FALLEN, ((1, 0), (1, 2)))}
+    "with_cut": (FALLEN, ((1, 0), (1, 2))),
+    "chain": ((0, 2, 3),), "mended": (FALLEN, 2, (0, 1, 2)), "helpers": (FALLEN, (1,), 5),
+    "cheapest_mend": (FALLEN, ((1,), (2,)), 5, 2), "enough_at": (FALLEN, (0, 1), ((0,), (1,)), 5),
+    "safe_from": (FALLEN, ((0, 2),), 5), "blamed": (FALLEN, (0, 2), 5), "worth": (FALLEN, (0, 2), 5, 2),
+    "sum_of": (TREE, ROWS, 1, 4), "join_sums": (TREE, (1, 64), (2, 92)), "compare": (TREE, ROWS, OTHER_ROWS),
+    "least_proof": (TREE, ROWS, OTHER_ROWS),
+    "shown": (RUNS, (4,), 1), "may_drop": (RUNS, (4,), (0, 1), 0), "poured": (RUNS, (4,), (0, 1), 9),
+    "taking_order": (RUNS, (4,), (0, 1), 9),
+    "play": (2, (("ask", 0, 2), ("take", 0, 2, 7), ("copy", 0, 1), ("close", 0), ("lose", 1))),
+    "source": (((0, 0), (1, 4), (1, 5)),), "compare_put": (3, 3, 9), "is_passed": (PLAN, PASSING), "can_pass": (PLAN,),
+    "pass_fate": (PLAN,), "bare_pass": (PLAN,), "is_unjoined": (PLAN, ((1, 0),), ((3, 0), (3, 1))),
+    "stretches": (STORE,), "owner_lot": (STORE, 1, 24), "book_of": (STORE, 23), "missed": (STORE, 1, 2),
+    "trial_book": (STORE, TRIAL, 23), "fails_at": (STORE, TRIAL, 23), "weak_stretches": (STORE, TRIAL),
+    "is_safe": (STORE, TRIAL), "weak_point": (STORE, TRIAL), "least_askers": (STORE, TRIAL),
+    "safe_numbers": (STORE, 0, 2, 1, 2), "with_ring": (STORE, (50, ((10, 0), (25, 5))), 9),
+    "stands": (KEPT,), "paper_against": (MISSED,), "first_fallen": ((KEPT, MISSED),), "reason_for": (KEPT,),
+    "book_text": (BOOK,), "world_text": (WORLD,), "log_text": (LOG,), "ring_text": (RING,),
+    "read_book": ("book 2 1\nput 0 1 0,1 0+1\nwait 3",), "read_world": ("took 0,1 1:2\nnone\ncame 3",),
+    "read_log": ("read 1 0,1 5\n",), "read_ring": ("ring 9\nspot 0 4\n",),
+    "replies": (2, 1, "put 0 0,1 0\nread 0,1\nlog")}
 
 # For an is_.. function: what is passed ahead of its thing, one that is such, one that is none.
 THINGS = {
@@ -188,11 +242,17 @@ THINGS = {
     "is_web": ((), WEB, (0, ())), "is_move": ((), MOVE, MOVE[:2]), "is_losing_lot": ((LOSING, 2, 2), (0, 3), (0, 1)),
     "is_heirs": ((MOVE,), ((0, 0), (1, 1), (3, 2)), ((0, 0), (1, 1))), "is_short_lot": ((LOSING,), (0, 3), (0, 1)),
     "is_mishap_lots": ((FALLEN, PHASES, (1, 0, 0, 1)), ((2,), (0, 1)), ((1,), (0, 1))),
-    "is_talk": ((), TALK, BOOK), "is_talk_world": ((TALK,), ((), (2, 3), (), ()), ((), (1,), (), ()))}
+    "is_talk": ((), TALK, BOOK), "is_talk_world": ((TALK,), ((), (2, 3), (), ()), ((), (1,), (), ())),
+    "mends_it": ((FALLEN, ((1,), (2,)), 5), ((2, 1), (0, 1)), ((0, 1),)), "is_tree": ((), TREE, TREE[:3]),
+    "is_rows": ((TREE,), ROWS, ROWS[::-1]), "is_runs": ((), RUNS, RUNS[0]), "is_plan": ((), PLAN, PLAN[:1]),
+    "is_fate": ((PLAN,), PASSING, PASSING[:3]), "is_store": ((), STORE, STORE[:3]),
+    "is_trial": ((STORE,), TRIAL, (4, 0, 2, 1, 2)), "is_claim": ((), KEPT, KEPT[:3]),
+    "is_paper_against": ((MISSED,), (((0, 1), ()), (), ()), ((0, 1), (), ())),
+    "is_reason_for": ((KEPT,), (0, ((0, 0, 0), (2, 2, 2))), (0, ((0, 0, 0),)))}
 
 
 # The functions that return a list.
-LISTS = ("cells_by_moments", "may_be", "mishaps")
+LISTS = ("cells_by_moments", "may_be", "mishaps", "helpers", "replies")
 
 
 def function(module, name):
@@ -233,7 +293,7 @@ class Interface(unittest.TestCase):
 
     def test_a_call_for_each_function(self):
         told = {name for _, name, _ in all_functions()}
-        self.assertEqual(told, set(CALLS) | set(THINGS) | {"is_family", "is_boxes"})
+        self.assertEqual(told, set(CALLS) | set(THINGS) | {"is_family", "is_boxes", "is_request", "reply"})
 
 
 class Calls(unittest.TestCase):
@@ -266,7 +326,8 @@ class Calls(unittest.TestCase):
                     self.assertNotIn("[", repr(result)[1:])
 
     def test_a_returned_list_is_the_callers_own(self):
-        for module, name in (("worlds", "cells_by_moments"), ("worlds", "may_be"), ("moves", "mishaps")):
+        for module, name in (("worlds", "cells_by_moments"), ("worlds", "may_be"), ("moves", "mishaps"),
+                             ("mends", "helpers"), ("desk", "replies")):
             action = function(module, name)
             first = action(*CALLS[name])
             kept = list(first)

@@ -13,10 +13,11 @@ FOLDER = os.path.join(ROOT, "hintring")
 NODES = """Module Expr Constant FunctionDef ClassDef arguments arg Return If For While Break Continue Pass Raise
 Assign Name Load Store Del Delete Tuple List Dict ListComp DictComp SetComp comprehension Call Attribute Subscript Slice
 BinOp UnaryOp BoolOp Compare IfExp And Or Not USub Invert Add Sub Mult FloorDiv Mod BitAnd BitOr BitXor LShift RShift
-Eq NotEq Lt LtE Gt GtE Is IsNot In NotIn ImportFrom alias keyword JoinedStr FormattedValue""".split()
+Eq NotEq Lt LtE Gt GtE Is IsNot In NotIn ImportFrom alias keyword JoinedStr FormattedValue Try ExceptHandler""".split()
 BUILTINS = """len range enumerate zip min max sum abs sorted reversed int str bool list tuple dict set isinstance any
 all ValueError LookupError""".split()
-METHODS = "append get items keys values setdefault bit_length index insert count join split extend pop copy".split()
+METHODS = """append get items keys values setdefault bit_length index insert count join split extend pop copy replace
+zfill""".split()
 NO_ATTRIBUTES = """items keys values pop update append clear extend insert remove reverse setdefault sort args encode decode hex
 fromhex format as_integer_ratio bit_count conjugate from_bytes is_integer to_bytes""".split()
 BARRED = """type typing typing_extensions enum Enum IntEnum StrEnum Flag IntFlag Generic Protocol ABC ABCMeta namedtuple
@@ -90,9 +91,45 @@ class Language(unittest.TestCase):
                 self.assertIsInstance(node, (ast.ImportFrom, ast.FunctionDef, ast.ClassDef, ast.Assign), name)
                 if isinstance(node, ast.Assign):
                     self.assertIsInstance(node.targets[0], ast.Name)
-                    ast.literal_eval(node.value)
+                    self.check_table(name, tree, node)
             kinds = [isinstance(node, ast.ImportFrom) for node in tree.body[1:]]
             self.assertEqual(kinds, sorted(kinds, reverse=True), name)
+
+    def check_table(self, name, tree, node):
+        """What a name at module level is assigned is plain, or a table of functions above."""
+        above = [one.name for one in tree.body[:tree.body.index(node)] if isinstance(one, ast.FunctionDef)]
+        if isinstance(node.value, ast.Dict) and all(isinstance(worth, ast.Name) for worth in node.value.values):
+            self.assertFalse({worth.id for worth in node.value.values} - set(above), name)
+            self.assertTrue(all(isinstance(key, ast.Constant) for key in node.value.keys), name)
+        else:
+            ast.literal_eval(node.value)
+
+    def test_tables_are_only_read(self):
+        for name, tree in trees():
+            tables = {node.targets[0].id for node in tree.body if isinstance(node, ast.Assign)
+                      and isinstance(node.value, (ast.Dict, ast.List))}
+            for function in functions(tree):
+                good = {id(node.value) for node in ast.walk(function)
+                        if isinstance(node, ast.Subscript) and isinstance(node.ctx, ast.Load)}
+                good |= {id(right) for node in ast.walk(function) if isinstance(node, ast.Compare)
+                         for sign, right in zip(node.ops, node.comparators) if isinstance(sign, (ast.In, ast.NotIn))}
+                for node in ast.walk(function):
+                    if isinstance(node, ast.Name) and node.id in tables:
+                        self.assertIn(id(node), good, (name, node.lineno))
+                    if isinstance(node, ast.Call):
+                        self.assertIsInstance(node.func, (ast.Name, ast.Attribute), (name, node.lineno))
+
+    def test_errors_are_own_ones(self):
+        own = {node.name for node in ast.parse(source("errors.py")).body if isinstance(node, ast.ClassDef)}
+        for name, tree in trees():
+            for node in ast.walk(tree):
+                if isinstance(node, ast.ExceptHandler):
+                    self.assertIn(getattr(node.type, "id", None), own, name)
+                if isinstance(node, ast.Try):
+                    self.assertFalse(node.finalbody)
+                if isinstance(node, ast.Raise):
+                    self.assertIsInstance(node.exc, ast.Call, name)
+                    self.assertIn(node.exc.func.id, own)
 
     def test_imports(self):
         defined = {name[:-3]: {node.name for node in tree.body if isinstance(node, (ast.FunctionDef, ast.ClassDef))}
@@ -147,12 +184,15 @@ class Language(unittest.TestCase):
         attributes = {node.attr for _, tree in trees() for node in ast.walk(tree)
                       if isinstance(node, ast.Attribute) and isinstance(node.ctx, ast.Store)}
         self.assertFalse(attributes & set(NO_ATTRIBUTES))
+        methods = {one.name for _, tree in trees() for node in tree.body if isinstance(node, ast.ClassDef)
+                   for one in node.body if isinstance(one, ast.FunctionDef)}
+        self.assertFalse(methods & attributes)
         for name, tree in trees():
             for node in ast.walk(tree):
                 if isinstance(node, ast.Attribute) and isinstance(node.ctx, ast.Store):
-                    self.assertEqual((node.value.__class__, getattr(node.value, "id", "")), (ast.Name, "self"))
+                    self.assertIsInstance(node.value, ast.Name)
                 if isinstance(node, ast.Attribute) and node.attr != "__init__":
-                    self.assertTrue(node.attr in METHODS or node.attr in attributes, (name, node.lineno))
+                    self.assertIn(node.attr, METHODS + sorted(attributes | methods), (name, node.lineno))
                 if isinstance(node, ast.Compare):
                     for sign, right in zip(node.ops, node.comparators):
                         if isinstance(sign, (ast.Is, ast.IsNot)):

@@ -3,7 +3,7 @@
 import random
 import unittest
 from functools import lru_cache
-from itertools import combinations, product
+from itertools import combinations
 
 from hintring import errors
 from hintring.books import is_book, last, versions
