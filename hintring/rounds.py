@@ -73,8 +73,9 @@ def merged_cells(one, other):
 
 def source(answers):
     """The first of these TAKEN with the greatest ballot; (0, 0) if there is none."""
-    best = (0, 0)
-    for taken in frozen(answers):
+    answers = frozen(answers)
+    best = answers[0] if len(answers) > 0 else (0, 0)
+    for taken in answers:
         if taken[0] > best[0]:
             best = taken
     return best

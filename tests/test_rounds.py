@@ -68,7 +68,7 @@ class Play(Case):
         for _ in range(200):
             answers = tuple((rng.randrange(0, 4), rng.randrange(9)) for _ in range(rng.randrange(0, 6)))
             best = max([ballot for ballot, _ in answers], default=0)
-            wanted = [one for one in answers if one[0] == best][0] if best else (0, 0)
+            wanted = [one for one in answers if one[0] == best][0] if answers else (0, 0)
             self.assertEqual(source(answers), wanted)
         self.assertEqual((source(()), source(((0, 0),)), source([[2, 5], [2, 6]])), ((0, 0), (0, 0), (2, 5)))
         self.assertEqual((compare_put(0, 0, 5), compare_put(5, 0, 7), compare_put(7, 7, 7)), (5, 5, 7))
